@@ -1,0 +1,1 @@
+"""Movedchest: heavy chests tipped and turned, told by counts and slants."""

@@ -1,0 +1,138 @@
+"""What each function is passed, and values that are and are not of these kinds."""
+
+NUMBERS = [None, True, False, "", "0", 1.0, 0.5, {}, (), [], (0,), [0], b"0", object(), ((0,),)]
+HOME = ((0, 1, 2), (0, 0, 0), (0, 0, 0), (1, 1, 1))
+TIPPED = ((2, 1, 0), (1, 0, 1), (0, 0, 0), (-1, 1, 1))
+LYING, ONES, ZERO = (0, 1, 2), (1, 1, 1), (0, 0, 0)
+
+
+def endless():
+    """A list that contains itself."""
+    own = []
+    own.append(own)
+    return own
+
+
+def deep():
+    """A tuple nested deeper than Python calls itself."""
+    own = ()
+    for _ in range(100000):
+        own = (own,)
+    return own
+
+
+NO_TUPLES = [None, True, False, 0, 1, "", "abc", "012", 1.5, {}, {0: 1}, {0, 1, 2}, b"\x00\x01\x02", object(), endless(),
+             [endless()] * 3, deep(), (deep(),) * 3]
+EMPTY = [(), [], ((),), [[]]]
+
+# For each kind: values that are of it.
+FIT = {
+    "chest": [(5, 2, 3), (1, 1, 1), (60, 60, 1)],
+    "shape": [(0, 1, 2), (2, 0, 1), (2, 1, 0), (0, 2, 1)],
+    "stand": [HOME, TIPPED, ((1, 2, 0), (10 ** 12, -5, 6), (2, -10 ** 12, 0), (-1, -1, 1)), ((0, 1, 2), (2, 0, 2), ZERO, ONES)],
+    "move": [("tip", 0), ("tip", 3), ("turn", 2, 1), ("turn", 0, -1)],
+    "row": [(), (("tip", 0),), (("tip", 1), ("tip", 2), ("tip", 2)), (("turn", 2, 1), ("turn", 3, -1), ("tip", 0))],
+    "counts": [(0, 0, 0, 0, 0, 0), (1, 0, 0, 0, 0, 0), (1, 1, 2, 0, -4, 10 ** 12), (0, 2, 0, 0, 0, 0)],
+    "often": [(0, 0, 0, 0, 0, 0), (1, 1, 2, 0, 0, 0), (2, 0, 0, 0, 0, 2), (1, 1, 1, 1, 1, 1), (0, 0, 3, 3, 3, 3)],
+    "way": [0, 1, 2, 3],
+    "link": [0, 1, 5, 6, -1],
+    "position": [0, 3, 5],
+    "side": [0, 1, 2],
+    "swing": [0, 3, 4, 7],
+    "place": [0],
+    "often_number": [0, 1, -2, 3000],
+    "text": ["", "a b\n# c\n\n-1", "a\nB"],
+    "words": [[], [("a", 0), ("b", 0), ("c", 3)], [("-", 7)]],
+    "word": ["", "07", "-12", "a"],
+    "number": [0, -7, 10 ** 12 - 1],
+    "thing": [None, True, 3, "a", (), [], (1, 1, 1), [1, 1, 1], ("tip", 0), ["tip", 0], (("tip", 0),), [("tip", 0)], HOME,
+              list(HOME), (0, 0, 0, 0, 0, 0), [0, 0, 0, 0, 0, 0], (0, 1, 2, 2), [0, 1, 2, 2], (True, 1, 2), (0, True, 0)],
+}
+
+# For each kind: values that are not, each of which is Unfit(); kinds without any are not checked.
+UNFIT = {
+    "chest": NO_TUPLES + EMPTY + [
+        (1, 1), [1, 1], (1, 1, 1, 1), (0, 1, 1), (1, 0, 1), (1, 1, 0), (1, 1, -1), (True, 1, 1), (1, 1, True), (1, None, 1),
+        ("1", 1, 1), (1, 1, (1,)), (1, 1, [1]), ((1, 1, 1),), [[1, 1, 1]], (1, 1, 1.0), ((1,), (1,), (1,)),
+    ],
+    "shape": NO_TUPLES + EMPTY + [
+        (0, 1), (0, 1, 2, 0), (0, 1, 1), (0, 0, 0), (1, 2, 3), (-1, 0, 1), (False, 1, 2), (0, True, 2), [0, True, 2],
+        (0, 1, None), (0, 1, "2"), (0, 1, (2,)), ((0, 1, 2),), [[0, 1, 2]], (0, 1, 2.0), (-3, -2, -1),
+    ],
+    "stand": NO_TUPLES + EMPTY + [
+        HOME[:3], HOME + (ONES,), (HOME,), [list(HOME)], (LYING, ZERO, ZERO, (1, 1, 0)), (LYING, ZERO, ZERO, (1, 1, True)),
+        (LYING, ZERO, ZERO, (1, 1)), (LYING, ZERO, ZERO, (1, 1, 1, 1)), (LYING, ZERO, (0, 0), ONES),
+        (LYING, (0, 0, 0, 0), ZERO, ONES), (LYING, (0, True, 0), ZERO, ONES), (LYING, (0, "0", 0), ZERO, ONES),
+        (LYING, ZERO, (None, 0, 0), ONES), (LYING, ZERO, (0, (0,), 0), ONES), ((0, 1, 1), ZERO, ZERO, ONES),
+        ((0, True, 2), ZERO, ZERO, ONES), ((0, 1), ZERO, ZERO, ONES), (None, ZERO, ZERO, ONES), (LYING, None, ZERO, ONES),
+        (LYING, ZERO, True, ONES), (LYING, ZERO, ZERO, "111"), (LYING, ZERO, ZERO, 1), (LYING, ZERO, ZERO, (1, 1, 3)),
+        [[0, 1, 2], [0, 0, 0], [0, 0, 0], [1, 1, -2]], LYING + ZERO + ZERO + ONES, ((LYING,), ZERO, ZERO, ONES),
+        (LYING, (0.0, 0, 0), ZERO, ONES),
+    ],
+    "move": NO_TUPLES + EMPTY + [
+        ("tip",), ("tip", 4), ("tip", -1), ("tip", True), ("tip", None), ("tip", "0"), ("tip", (0,)), ("tip", [0]),
+        ("tip", 0, 1), ("turn", 0), ("turn", 4, 1), ("turn", -1, 1), ("turn", 0, 0), ("turn", 0, 2), ("turn", 0, True),
+        ("turn", False, 1), ("turn", 0, 1, 1), ("turn", 0, (1,)), (("tip", 0),), [["tip", 0]], (("tip",), 0), ("slide", 0),
+        (b"tip", 0), (0, "tip"), ("tip", 0.0), "tip", ("east",),
+    ],
+    "row": NO_TUPLES + [
+        ((),), [[]], ("tip", 0), ["tip", 0], ("turn", 0, 1), (("tip", 4),), [["tip", -1]], (("tip", 0), None), (("tip", True),),
+        (("tip", 0), ("turn", 0)), ((("tip", 0),),), [[["tip", 0]]], (("turn", 0, 0),), ("tip", "tip"), (0,), (None,), ("",),
+        (("tip", 0), ("tip", 0, 0)),
+    ],
+    "counts": NO_TUPLES + EMPTY + [
+        (0,) * 5, (0,) * 7, [0] * 5, (0, 0, 0, 0, 0, True), (None, 0, 0, 0, 0, 0), ("0",) * 6, "000000", ((0,),) * 6,
+        ((0,) * 6,), (0, 0, 0, 0, 0, 1.0), [[0]] * 6,
+    ],
+    "often": NO_TUPLES + EMPTY + [
+        (0,) * 5, (0,) * 7, (0, 0, 0, 0, 0, -1), (-1, 0, 0, 0, 0, 0), (0, 0, 0, 0, 0, True), (0, 0, None, 0, 0, 0),
+        ("0",) * 6, ((0,),) * 6, ((0,) * 6,), (0, 0, 0, 0, 0, 1.0),
+    ],
+    "way": NUMBERS + [-1, 4, 5, "east", ("tip", 0), 10 ** 30],
+    "link": NUMBERS + ["LINK 0", (0, 1)],
+    "position": NUMBERS + [-1, 6, -6, 10 ** 30],
+    "side": NUMBERS + [-1, 3, -3, 10 ** 30],
+    "swing": NUMBERS + [-1, 8, -8, 10 ** 30],
+    "place": NUMBERS + [-1, -2, 4, 5, 10 ** 30],
+    "often_number": NUMBERS,
+    "words": NO_TUPLES + [[()], ["a"], [("a",)], [("a", 0, 0)], [("A", 0)], [("", 0)], [("a", -1)], [("a", True)],
+                          [("a", 1), ("b", 0)], [[["a", 0]]], ("a", 0), [(0, "a")]],
+}
+
+# For each file and function: the names of its parameters, in order, with their kinds.
+CALLS = {
+    "signs": {
+        "words": [("text", "text")],
+        "text_of": [("words", "words")],
+        "number_of": [("word", "word")],
+        "word_of": [("number", "number")],
+    },
+    "shapes": {
+        "is_chest": [("thing", "thing")],
+        "is_shape": [("thing", "thing")],
+        "shapes": [],
+        "position": [("shape", "shape")],
+        "shape_at": [("number", "position")],
+        "link_ends": [("link", "link")],
+        "link_side": [("link", "link")],
+        "link_ways": [("link", "link")],
+        "link_over": [("shape", "shape"), ("way", "way")],
+        "other_shape": [("shape", "shape"), ("link", "link")],
+        "link_between": [("shape", "shape"), ("other", "shape")],
+        "arcs": [("shape", "shape"), ("other", "shape")],
+        "ring_steps": [("shape", "shape"), ("other", "shape")],
+    },
+    "stands": {
+        "is_stand": [("thing", "thing")],
+        "is_move": [("thing", "thing")],
+        "home": [],
+        "moved": [("stand", "stand"), ("move", "move")],
+        "moves": [("stand", "stand")],
+        "middle_of": [("chest", "chest"), ("stand", "stand")],
+        "height": [("chest", "chest"), ("stand", "stand")],
+        "lower_face": [("chest", "chest"), ("stand", "stand")],
+        "corners": [("chest", "chest"), ("stand", "stand")],
+        "face_below": [("stand", "stand")],
+        "looks": [("stand", "stand"), ("side", "side")],
+    },
+}

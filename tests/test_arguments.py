@@ -1,0 +1,121 @@
+"""[2], [3], [27]: how arguments are passed, for every function of the interface."""
+
+import copy
+import importlib
+import inspect
+import itertools
+import unittest
+
+from movedchest.errors import Unfit
+from tests.calls import CALLS, FIT, UNFIT
+
+# At which depths a list stands, tuples at all others.
+LISTS_AT = [
+    lambda depth: False, lambda depth: True, lambda depth: depth == 0, lambda depth: depth == 1, lambda depth: depth == 2,
+    lambda depth: depth > 0,
+]
+
+
+def recast(value, listed, depth=0):
+    """value with lists at the depths that listed tells, tuples at the others."""
+    if not isinstance(value, (list, tuple)):
+        return value
+    own = [recast(part, listed, depth + 1) for part in value]
+    return own if listed(depth) else tuple(own)
+
+
+def outcome(function, *args, **named):
+    """What the call returns or raises, told so that lists and tuples differ."""
+    try:
+        return "returns " + repr(function(*args, **named))
+    except (LookupError, ValueError) as error:
+        return f"raises {error.__class__.__name__} {vars(error)}"
+
+
+def every_function():
+    for module, functions in CALLS.items():
+        for name, parameters in functions.items():
+            yield getattr(importlib.import_module("movedchest." + module), name), parameters
+
+
+def fit_arguments(parameters):
+    """Tuples of arguments that are as they should be."""
+    return list(itertools.product(*[FIT[kind] for _, kind in parameters]))
+
+
+class Arguments(unittest.TestCase):
+    def test_names_in_order(self):
+        for function, parameters in every_function():
+            with self.subTest(function=function.__name__):
+                told = inspect.signature(function).parameters
+                self.assertEqual(list(told), [name for name, _ in parameters])
+                for own in told.values():
+                    self.assertEqual((own.kind, own.default), (own.POSITIONAL_OR_KEYWORD, own.empty))
+
+    def test_by_name_and_again(self):
+        for function, parameters in every_function():
+            for args in fit_arguments(parameters):
+                with self.subTest(function=function.__name__, args=args):
+                    named = {name: arg for (name, _), arg in zip(parameters, args)}
+                    first = outcome(function, *args)
+                    self.assertEqual(outcome(function, **named), first)
+                    self.assertEqual(outcome(function, *args[:1], **dict(list(named.items())[1:])), first)
+                    self.assertEqual(outcome(function, *args), first)
+
+    def test_lists_for_tuples_and_tuples_for_lists(self):
+        for function, parameters in every_function():
+            for args in fit_arguments(parameters):
+                first = outcome(function, *args)
+                for listed in LISTS_AT:
+                    own = [arg if kind == "thing" else recast(arg, listed) for arg, (_, kind) in zip(args, parameters)]
+                    with self.subTest(function=function.__name__, args=own):
+                        self.assertEqual(outcome(function, *own), first)
+
+    def test_arguments_stay_as_they_were(self):
+        for function, parameters in every_function():
+            for args in fit_arguments(parameters):
+                own = [recast(arg, lambda depth: True) for arg in args]
+                ahead = copy.deepcopy(own)
+                outcome(function, *own)
+                with self.subTest(function=function.__name__):
+                    self.assertEqual(repr(own), repr(ahead))
+
+    def test_returned_lists_are_new(self):
+        for function, parameters in every_function():
+            for args in fit_arguments(parameters):
+                first = outcome(function, *args)
+                if first.startswith("returns ["):
+                    function(*args).append(None)
+                    with self.subTest(function=function.__name__):
+                        self.assertEqual(outcome(function, *args), first)
+
+    def test_unfit_whatever_it_is(self):
+        for function, parameters in every_function():
+            fit = [FIT[kind][0] for _, kind in parameters]
+            self.assertNotIn("Unfit", outcome(function, *fit))
+            for at, (name, kind) in enumerate(parameters):
+                for number, value in enumerate(UNFIT.get(kind, [])):
+                    with self.subTest(function=function.__name__, parameter=name, number=number):
+                        with self.assertRaises(Unfit):
+                            function(*fit[:at], value, *fit[at + 1:])
+
+    def test_unfit_ahead_of_all_other_errors(self):
+        for function, parameters in every_function():
+            for args in fit_arguments(parameters):
+                if not outcome(function, *args).startswith("raises"):
+                    continue
+                for at, (name, kind) in enumerate(parameters):
+                    for value in [None, True, "x"] if kind in UNFIT else []:
+                        with self.subTest(function=function.__name__, parameter=name, args=args):
+                            with self.assertRaises(Unfit):
+                                function(*args[:at], value, *args[at + 1:])
+
+    def test_whether_thing_is_such_is_true_or_false(self):
+        for function, parameters in every_function():
+            if parameters and parameters[-1][0] == "thing":
+                for args in fit_arguments(parameters):
+                    self.assertIn(outcome(function, *args), ("returns True", "returns False"))
+
+
+if __name__ == "__main__":
+    unittest.main()
