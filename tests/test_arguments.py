@@ -7,11 +7,12 @@ import itertools
 import unittest
 
 from movedchest.errors import Unfit
-from tests.calls import CALLS, FIT, UNFIT
+from tests.calls import CALLS, FIT, GREAT, UNFIT
 
 # At which depths a list stands, tuples at all others.
 LISTS_AT = [
-    lambda depth: False, lambda depth: True, lambda depth: depth == 0, lambda depth: depth == 1, lambda depth: depth == 2,
+    lambda depth: False, lambda depth: True, lambda depth: depth == 0, lambda depth: depth == 1,
+    lambda depth: depth == 2,
     lambda depth: depth > 0,
 ]
 
@@ -109,6 +110,18 @@ class Arguments(unittest.TestCase):
                         with self.subTest(function=function.__name__, parameter=name, args=args):
                             with self.assertRaises(Unfit):
                                 function(*args[:at], value, *args[at + 1:])
+
+    def test_nothing_is_refused_at_the_bounds_and_somewhat_beyond(self):
+        # CanNot() is no refusal: there are COUNTS that do not lead; walk_for and repeated have TooMany() of their own.
+        may_raise = {"walk_for": ("TooMany",), "repeated": ("TooMany",), "stand_by": ("CanNot",), "fronts_by": ("CanNot",)}
+        for function, parameters in every_function():
+            if function.__name__ in ("link_between", "other_shape"):
+                continue
+            for args in itertools.product(*[GREAT[kind] for _, kind in parameters]):
+                told = outcome(function, *args)
+                if not told.startswith("returns"):
+                    with self.subTest(function=function.__name__):
+                        self.assertIn(told.split()[1], may_raise.get(function.__name__, ()))
 
     def test_whether_thing_is_such_is_true_or_false(self):
         for function, parameters in every_function():

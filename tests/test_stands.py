@@ -35,10 +35,11 @@ class Kinds(unittest.TestCase):
             self.assertIs(is_move(list(move)), False)
             self.assertIs(is_move((move,)), False)
         for thing in (
-            None, True, 0, "tip", (), [], ("tip",), ("tip", 4), ("tip", -1), ("tip", True), ("tip", None), ("tip", "0"),
-            ("tip", 0, 1), ("turn", 0), ("turn",), ("turn", 4, 1), ("turn", -1, 1), ("turn", 0, 0), ("turn", 0, 2),
-            ("turn", 0, True), ("turn", False, 1), ("turn", 0, 1, 1), ("Tip", 0), (0, "tip"), ("slide", 0), (("tip",), 0),
-            ("turn", 0, (1,)), ("tip", (0,)), ("tip", [0]), (["tip"], 0), ("turn", 0, None), ("turn", 0, "left"),
+            None, True, 0, "tip", (), [], ("tip",), ("tip", 4), ("tip", -1), ("tip", True), ("tip", None),
+            ("tip", "0"), ("tip", 0, 1), ("turn", 0), ("turn",), ("turn", 4, 1), ("turn", -1, 1), ("turn", 0, 0),
+            ("turn", 0, 2), ("turn", 0, True), ("turn", False, 1), ("turn", 0, 1, 1), ("Tip", 0), (0, "tip"),
+            ("slide", 0), (("tip",), 0), ("turn", 0, (1,)), ("tip", (0,)), ("tip", [0]), (["tip"], 0),
+            ("turn", 0, None), ("turn", 0, "left"),
         ):
             self.assertIs(is_move(thing), False, thing)
 
