@@ -23,6 +23,17 @@ def are_numbers(thing, many):
     return isinstance(thing, tuple) and len(thing) == many and all([is_number(own) for own in thing])
 
 
+def is_just(thing, told):
+    """Whether thing is told, which is built of numbers, strings and tuples: True is no 1 there, a list no tuple."""
+    if isinstance(told, tuple):
+        if not isinstance(thing, tuple) or len(thing) != len(told):
+            return False
+        return all([is_just(part, own) for part, own in zip(thing, told)])
+    if isinstance(told, str):
+        return isinstance(thing, str) and thing == told
+    return is_number(thing) and thing == told
+
+
 def tupled(value, levels):
     """value with tuples in the place of lists, down to so many levels.
 

@@ -113,6 +113,17 @@ def first_step(shape, other, often):
     return backward
 
 
+def walk_over(shape, other, often):
+    """Such a walk, however long it is, where there is one."""
+    here, left = shape, often
+    walk = []
+    for _ in range(sum(often)):
+        link, here = first_step(here, other, left)
+        left = once_less(left, link)
+        walk.append(link)
+    return tuple(walk)
+
+
 def walk_for(shape, other, often):
     """A walk from shape to other that goes over each LINK just so often; CanNot(), TooMany()."""
     here, end = fit_shape(shape), fit_shape(other)
@@ -121,12 +132,7 @@ def walk_for(shape, other, often):
         raise CanNot()
     if sum(left) > MOST_LINKS:
         raise TooMany()
-    walk = []
-    while sum(left) > 0:
-        link, here = first_step(here, end, left)
-        left = once_less(left, link)
-        walk.append(link)
-    return tuple(walk)
+    return walk_over(here, end, left)
 
 
 def is_walk_for(shape, other, often, thing):

@@ -3,7 +3,11 @@
 NUMBERS = [None, True, False, "", "0", 1.0, 0.5, {}, (), [], (0,), [0], b"0", object(), ((0,),)]
 HOME = ((0, 1, 2), (0, 0, 0), (0, 0, 0), (1, 1, 1))
 TIPPED = ((2, 1, 0), (1, 0, 1), (0, 0, 0), (-1, 1, 1))
+# Come to from HOME by three turns, and by two tips.
+TURNED = ((1, 0, 2), (1, 3, 0), (1, -3, 0), (-1, 1, 1))
+ROLLED = ((0, 1, 2), (2, 0, 2), (0, 0, 0), (-1, 1, -1))
 LYING, ONES, ZERO = (0, 1, 2), (1, 1, 1), (0, 0, 0)
+FLAT = (0, 0, 0, 0, 0, 0)
 
 
 def endless():
@@ -31,7 +35,7 @@ FIT = {
     "chest": [(5, 2, 3), (1, 1, 1), (60, 60, 1)],
     "shape": [(0, 1, 2), (2, 0, 1), (2, 1, 0), (0, 2, 1)],
     "stand": [HOME, TIPPED, ((1, 2, 0), (10 ** 12, -5, 6), (2, -10 ** 12, 0), (-1, -1, 1)),
-              ((0, 1, 2), (2, 0, 2), ZERO, ONES)],
+              ((0, 1, 2), (2, 0, 2), ZERO, ONES), TURNED, ROLLED],
     "move": [("tip", 0), ("tip", 3), ("turn", 2, 1), ("turn", 0, -1)],
     "row": [(), (("tip", 0),), (("tip", 1), ("tip", 2), ("tip", 2)), (("turn", 2, 1), ("turn", 3, -1), ("tip", 0))],
     "filled": [(("tip", 0),), (("turn", 2, 1), ("turn", 3, -1), ("tip", 0))],
@@ -49,9 +53,16 @@ FIT = {
     "words": [[], [("a", 0), ("b", 0), ("c", 3)], [("-", 7)]],
     "word": ["", "07", "-12", "a"],
     "number": [0, -7, 10 ** 12 - 1],
+    "slants": [(0, 0, 0, 0), (1, 3, 0, 0), (10 ** 12, 0, -3, 5), (1, 0, 0, 0)],
+    "sign": [1, -1],
+    "pair": [0, 1],
+    "row_place": [0, 1, 23, 10 ** 30],
+    "stake": [(FLAT, ()), ((0, 0, 2, 0, 0, 0), (3, 4, 5)), ((1, -1, 0, 0, 10 ** 12, 2), (0, 2)), (FLAT, (0, 1, 2, 3, 4, 5))],
     "thing": [None, True, 3, "a", (), [], (1, 1, 1), [1, 1, 1], ("tip", 0), ["tip", 0], (("tip", 0),), [("tip", 0)],
-              HOME, list(HOME), (0, 0, 0, 0, 0, 0), [0, 0, 0, 0, 0, 0], (0, 1, 2, 2), [0, 1, 2, 2], (True, 1, 2),
-              (0, True, 0)],
+              HOME, list(HOME), FLAT, [0, 0, 0, 0, 0, 0], (0, 1, 2, 2), [0, 1, 2, 2], (True, 1, 2),
+              (0, True, 0), (("tip", 0), ("tip", 0)), (["tip", 0], ["tip", 0]), (("turn", 0, -1),), (FLAT, ()),
+              (FLAT, [0, 1, 2, 3, 4, 5]), (FLAT, (0, 1, 2, 3, 4, 5)), ("sum", 0), ("sum", True), ["sum", 0],
+              ("front", 0), ("odd", (0,)), ("odd", [0])],
 }
 
 # For each kind: values at the bounds of [3], and somewhat beyond them.
@@ -59,7 +70,8 @@ GREAT = {
     "chest": [(60, 60, 60), (61, 1, 100)],
     "shape": [(0, 1, 2)],
     "stand": [((0, 1, 2), (10 ** 12,) * 3, (-10 ** 12,) * 3, ONES),
-              ((2, 1, 0), (2 * 10 ** 12,) * 3, (-10 ** 13,) * 3, ONES)],
+              ((2, 1, 0), (2 * 10 ** 12,) * 3, (-10 ** 13,) * 3, ONES),
+              ((0, 1, 2), (10 ** 13, 10 ** 12, 10 ** 13), (-10 ** 12,) * 3, ONES)],
     "move": [("tip", 0)],
     "row": [(("tip", 0),) * 2000, (("tip", 1),) * 2100],
     "filled": [(("tip", 0),) * 2000, (("tip", 1),) * 2100],
@@ -77,7 +89,12 @@ GREAT = {
     "words": [[("a", 10 ** 6)]],
     "word": ["a" * 10 ** 5],
     "number": [10 ** 12 - 1, 1 - 10 ** 12],
-    "thing": [(10 ** 40,) * 3, ("tip",) * 10 ** 5],
+    "slants": [(10 ** 12,) * 4, (10 ** 13, -10 ** 13, 0, 2)],
+    "sign": [-1],
+    "pair": [1],
+    "row_place": [10 ** 30],
+    "stake": [((10 ** 12,) * 6, ()), ((-10 ** 13,) * 6, (5,))],
+    "thing": [(10 ** 40,) * 3, ("tip",) * 10 ** 5, (("tip", 0),) * 10 ** 4],
 }
 
 # For each kind: values that are not, each of which is Unfit(); kinds without any are not checked.
@@ -128,6 +145,19 @@ UNFIT = {
     "place": NUMBERS + [-1, -2, 4, 5, 10 ** 30],
     "place_behind": NUMBERS + [-1, -2, 4, 5, 10 ** 30],
     "any_number": NUMBERS,
+    "slants": NO_TUPLES + EMPTY + [
+        (0,) * 3, (0,) * 5, [0] * 3, (0, 0, 0, True), (None, 0, 0, 0), ("0",) * 4, "0000", ((0,),) * 4, ((0,) * 4,),
+        (0, 0, 0, 1.0), ((0, 0), (0, 0)), HOME,
+    ],
+    "sign": NUMBERS + [0, 2, -2, "1", 10 ** 30],
+    "pair": NUMBERS + [-1, 2, "0", 10 ** 30],
+    "row_place": NUMBERS + [-1, -10 ** 30, 10 ** 30 + 1, 10 ** 40],
+    "stake": NO_TUPLES + EMPTY + [
+        FLAT, (FLAT,), (FLAT, (), ()), ((), FLAT), (FLAT, 0), (FLAT, None), (FLAT, "0"), (FLAT, (6,)), (FLAT, (-1,)),
+        (FLAT, (True,)), (FLAT, (0, 0)), (FLAT, (1, 0)), [list(FLAT), [5, 4]], (FLAT, ((0,),)), (FLAT, ("0",)),
+        (FLAT, (None,)), (FLAT, (0.0,)), ((0,) * 5, ()), ((0,) * 7, ()), ((0, 0, 0, 0, 0, True), ()), (None, ()),
+        ("000000", ()), ((FLAT, ()),), (((0,) * 6,), ()), (FLAT, (0, 1, 2, 3, 4, 5, 5)), (FLAT, {}),
+    ],
     "words": NO_TUPLES + [[()], ["a"], [("a",)], [("a", 0, 0)], [("A", 0)], [("", 0)], [("a", -1)], [("a", True)],
                           [("a", 1), ("b", 0)], [[["a", 0]]], ("a", 0), [(0, "a")]],
 }
@@ -218,5 +248,45 @@ CALLS = {
         "walk_for": [("shape", "shape"), ("other", "shape"), ("often", "often")],
         "is_walk_for": [("shape", "shape"), ("other", "shape"), ("often", "often"), ("thing", "thing")],
         "fronts_by": [("stand", "stand"), ("shape", "shape"), ("counts", "counts")],
+    },
+    "fewest": {
+        "fewest_tips": [("stand", "stand"), ("goal", "stand")],
+        "first_tips": [("stand", "stand"), ("goal", "stand")],
+        "plan": [("stand", "stand"), ("goal", "stand")],
+        "is_plan": [("stand", "stand"), ("goal", "stand"), ("thing", "thing")],
+        "spare_tips": [("stand", "stand"), ("goal", "stand")],
+        "sure_links": [("stand", "stand"), ("goal", "stand")],
+        "gone_by": [("stand", "stand"), ("goal", "stand")],
+    },
+    "barred": {
+        "can_tip_to": [("stand", "stand"), ("goal", "stand")],
+        "bars": [("stand", "stand"), ("goal", "stand")],
+        "why_not": [("stand", "stand"), ("goal", "stand")],
+        "is_why_not": [("stand", "stand"), ("goal", "stand"), ("thing", "thing")],
+        "why_no_fewer": [("stand", "stand"), ("goal", "stand")],
+        "is_why_no_fewer": [("stand", "stand"), ("goal", "stand"), ("thing", "thing")],
+        "stakes": [("stand", "stand"), ("goal", "stand")],
+        "tips_told": [("stake", "stake")],
+    },
+    "slants": {
+        "slants_between": [("stand", "stand"), ("goal", "stand")],
+        "stand_by_slants": [("stand", "stand"), ("slants", "slants")],
+        "can_turn_to": [("stand", "stand"), ("goal", "stand")],
+        "why_not_turned": [("stand", "stand"), ("goal", "stand")],
+        "pair_turned": [("move", "move")],
+        "turn_for": [("number", "pair"), ("one", "sign"), ("other", "sign")],
+        "fewest_turns": [("stand", "stand"), ("goal", "stand")],
+        "first_turns": [("stand", "stand"), ("goal", "stand")],
+        "turn_plan": [("stand", "stand"), ("goal", "stand")],
+        "is_turn_plan": [("stand", "stand"), ("goal", "stand"), ("thing", "thing")],
+    },
+    "ways": {
+        "how_many_turn_rows": [("stand", "stand"), ("goal", "stand")],
+        "turn_row_at": [("stand", "stand"), ("goal", "stand"), ("number", "row_place")],
+        "turn_row_number": [("stand", "stand"), ("goal", "stand"), ("row", "row")],
+        "how_many_tip_rows": [("stand", "stand"), ("goal", "stand")],
+        "tip_row_at": [("stand", "stand"), ("goal", "stand"), ("number", "row_place")],
+        "tip_row_number": [("stand", "stand"), ("goal", "stand"), ("row", "row")],
+        "links_gone": [("stand", "stand"), ("goal", "stand")],
     },
 }

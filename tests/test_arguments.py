@@ -4,6 +4,7 @@ import copy
 import importlib
 import inspect
 import itertools
+import random
 import unittest
 
 from movedchest.errors import Unfit
@@ -15,6 +16,21 @@ LISTS_AT = [
     lambda depth: depth == 2,
     lambda depth: depth > 0,
 ]
+
+
+MOST_CALLS = 300
+
+# At the bounds CanNot() is no refusal: there are STANDS to which no row leads, and COUNTS that do not lead.
+MAY_RAISE = {
+    "walk_for": ("TooMany",), "repeated": ("TooMany",), "stand_by": ("CanNot",), "fronts_by": ("CanNot",),
+    "fewest_tips": ("CanNot",), "first_tips": ("CanNot",), "plan": ("CanNot", "TooMany"), "is_plan": ("CanNot",),
+    "spare_tips": ("CanNot",), "sure_links": ("CanNot",), "gone_by": ("CanNot",), "why_not": ("CanNot",),
+    "why_no_fewer": ("CanNot",), "slants_between": ("CanNot",), "why_not_turned": ("CanNot",), "pair_turned": ("CanNot",),
+    "fewest_turns": ("CanNot",), "first_turns": ("CanNot",), "turn_plan": ("CanNot", "TooMany"),
+    "how_many_turn_rows": ("CanNot", "TooMany"), "turn_row_at": ("CanNot", "TooMany"),
+    "turn_row_number": ("CanNot", "TooMany"), "how_many_tip_rows": ("CanNot", "TooMany"),
+    "tip_row_at": ("CanNot", "TooMany"), "tip_row_number": ("CanNot", "TooMany"), "links_gone": ("CanNot",),
+}
 
 
 def recast(value, listed, depth=0):
@@ -40,8 +56,9 @@ def every_function():
 
 
 def fit_arguments(parameters):
-    """Tuples of arguments that are as they should be."""
-    return list(itertools.product(*[FIT[kind] for _, kind in parameters]))
+    """Tuples of arguments that are as they should be: all, or some drawn of very many."""
+    every = list(itertools.product(*[FIT[kind] for _, kind in parameters]))
+    return every if len(every) <= MOST_CALLS else random.Random(27).sample(every, MOST_CALLS)
 
 
 class Arguments(unittest.TestCase):
@@ -112,8 +129,6 @@ class Arguments(unittest.TestCase):
                                 function(*args[:at], value, *args[at + 1:])
 
     def test_nothing_is_refused_at_the_bounds_and_somewhat_beyond(self):
-        # CanNot() is no refusal: there are COUNTS that do not lead; walk_for and repeated have TooMany() of their own.
-        may_raise = {"walk_for": ("TooMany",), "repeated": ("TooMany",), "stand_by": ("CanNot",), "fronts_by": ("CanNot",)}
         for function, parameters in every_function():
             if function.__name__ in ("link_between", "other_shape"):
                 continue
@@ -121,13 +136,15 @@ class Arguments(unittest.TestCase):
                 told = outcome(function, *args)
                 if not told.startswith("returns"):
                     with self.subTest(function=function.__name__):
-                        self.assertIn(told.split()[1], may_raise.get(function.__name__, ()))
+                        self.assertIn(told.split()[1], MAY_RAISE.get(function.__name__, ()))
 
     def test_whether_thing_is_such_is_true_or_false(self):
         for function, parameters in every_function():
             if parameters and parameters[-1][0] == "thing":
                 for args in fit_arguments(parameters):
-                    self.assertIn(outcome(function, *args), ("returns True", "returns False"))
+                    # No row leads there: so is_plan tells, whatever thing is.
+                    cannot = ["raises CanNot {}"] if function.__name__ in ("is_plan",) else []
+                    self.assertIn(outcome(function, *args), ["returns True", "returns False"] + cannot)
 
 
 if __name__ == "__main__":
