@@ -52,7 +52,7 @@ def less_turned(slants, pair, one, other):
 
 
 def turns_on(slants, rows, done):
-    """The list, MOVES ascending, of triples: a first turn of shortest ROWS, how many have it, the SLANTS then left.
+    """The list, MOVES ascending, of triples: a first turn, how many shortest ROWS have it, the SLANTS then left.
 
     rows is how many ROWS there are in all, done how many turns are made
     already: SLANTS are those from the first STAND, whose pairs are exchanged
@@ -69,8 +69,7 @@ def turns_on(slants, rows, done):
         ones = many[pair] + one * slants[2 * pair]
         others = many[pair] + other * slants[2 * pair + 1]
         begun = rows * ones * others // (4 * many[pair] * sum(many))
-        if begun > 0:
-            found.append((move, begun, less_turned(slants, pair, one, other)))
+        found.append((move, begun, less_turned(slants, pair, one, other)))
     return found
 
 
@@ -155,7 +154,7 @@ def how_many_tip_rows(stand, goal):
 
 
 def tips_on(stand, goal):
-    """The list, MOVES ascending, of triples: a first tip of shortest ROWS, how many have it, the STAND then come to."""
+    """The list, MOVES ascending, of triples: a first tip, how many shortest ROWS have it, the STAND then come to."""
     found = []
     for way in first_tips(stand, goal):
         beyond = step_by(stand, ("tip", way))

@@ -28,7 +28,7 @@ def small_counts(most):
 
 
 def shifted(stand, shape, counts, fronts):
-    """The STAND of this SHAPE and these FRONTS to which the COUNTS from stand are these, whether tips lead there or not."""
+    """The STAND of this SHAPE and these FRONTS with these COUNTS from stand, whether tips lead there or not."""
     more = [[0, 0, 0], [0, 0, 0]]
     for link, count in enumerate(counts):
         for side in range(3):
@@ -127,13 +127,14 @@ class Bars(unittest.TestCase):
         askew = ((0, 1, 2), (1, 0, 0), (0, 1, 0), (1, 1, 1))
         for thing in (("sum", 0), ("sum", 1)):
             self.assertIs(is_why_not(HOME, askew, thing), True)
-        for thing in (["sum", 0], ("sum", False), ("sum", True), ("sum", 2), ("sum",), ("sum", 0, 0), ("sum", (0,)), "sum",
-                      0, None, True, (), [], (("sum", 0),), ("sum", "0"), ("sum", None), (0, "sum"), ("odd", ())):
+        for thing in (["sum", 0], ("sum", False), ("sum", True), ("sum", 2), ("sum",), ("sum", 0, 0), ("sum", (0,)),
+                      "sum", 0, None, True, (), [], (("sum", 0),), ("sum", "0"), ("sum", None), (0, "sum"),
+                      ("odd", ())):
             self.assertIs(is_why_not(HOME, askew, thing), False, thing)
         wrong = ((0, 1, 2), (1, 0, 1), (0, 0, 0), (1, 1, 1))
         self.assertIs(is_why_not(HOME, wrong, ("odd", (0,))), True)
-        for thing in (("odd", [0]), ("odd", (False,)), ("odd", 0), ("odd", ()), ("odd", (0, 0)), ("odd", (0, 1)), ["odd", (0,)],
-                      ("odd", ("0",)), ("odd", ((0,),)), ("odd", None)):
+        for thing in (("odd", [0]), ("odd", (False,)), ("odd", 0), ("odd", ()), ("odd", (0, 0)), ("odd", (0, 1)),
+                      ["odd", (0,)], ("odd", ("0",)), ("odd", ((0,),)), ("odd", None)):
             self.assertIs(is_why_not(HOME, wrong, thing), False, thing)
         faced = HOME[:3] + ((1, -1, 1),)
         self.assertIs(is_why_not(HOME, faced, ("front", 1)), True)
@@ -203,10 +204,11 @@ class Stakes(unittest.TestCase):
             goal = walked(stand, draw.tips(10))
             for counts, stretch in stakes(stand, goal):
                 self.assertIs(is_why_no_fewer(stand, goal, (counts, stretch)), True)
-                bent = [(list(counts), stretch), (counts, list(stretch)), [counts, stretch], (counts, stretch, ()), (stretch, counts),
-                        (counts,), (tuple(-own for own in counts) + (0,), stretch), (counts, stretch + (5,)),
-                        (counts, None), (counts[:5], stretch), ((counts, stretch),)]
-                bent += [(counts[:n] + (counts[n] + more,) + counts[n + 1:], stretch) for n in range(6) for more in (1, -1, 2)]
+                bent = [(list(counts), stretch), (counts, list(stretch)), [counts, stretch], (counts, stretch, ()),
+                        (stretch, counts), (counts,), (tuple(-own for own in counts) + (0,), stretch),
+                        (counts, stretch + (5,)), (counts, None), (counts[:5], stretch), ((counts, stretch),)]
+                bent += [(counts[:n] + (counts[n] + more,) + counts[n + 1:], stretch) for n in range(6)
+                         for more in (1, -1, 2)]
                 bent += [(tuple(bool(own) if own in (0, 1) else str(own) for own in counts), stretch)]
                 if stretch:
                     bent += [(counts, stretch[:-1]), (counts, stretch[1:]), (counts, stretch[:-1] + (stretch[-1] + 6,))]

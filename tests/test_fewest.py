@@ -151,9 +151,10 @@ class Plans(unittest.TestCase):
 
     def test_up_to_2000(self):
         draw = Draw(132)
-        told = [((0, 1, 2), (2000, 0, 0, 0, 0, 0)), ((0, 1, 2), (0, 0, 1996, 0, 0, 0)), ((2, 1, 0), (1999, 0, 0, 0, 0, 0)),
-                ((0, 1, 2), (334, -334, 334, 332, -332, 334)), ((0, 1, 2), (0, -998, 0, 0, 998, 0)),
-                ((0, 1, 2), (333, 333, -333, 333, 333, 335)), ((2, 0, 1), (-501, 499, 0, 998, 0, 0))]
+        told = [((0, 1, 2), (2000, 0, 0, 0, 0, 0)), ((0, 1, 2), (0, 0, 1996, 0, 0, 0)),
+                ((2, 1, 0), (1999, 0, 0, 0, 0, 0)), ((0, 1, 2), (334, -334, 334, 332, -332, 334)),
+                ((0, 1, 2), (0, -998, 0, 0, 998, 0)), ((0, 1, 2), (333, 333, -333, 333, 333, 335)),
+                ((2, 0, 1), (-501, 499, 0, 998, 0, 0))]
         for shape, counts in told:
             for _, xs, ys, fronts in draw.stands(3):
                 stand = HOME[0], xs, ys, fronts
@@ -165,8 +166,9 @@ class Plans(unittest.TestCase):
                 self.assertIs(is_plan(stand, goal, row), True)
 
     def test_more_than_2000(self):
-        told = [((0, 1, 2), (2002, 0, 0, 0, 0, 0)), ((0, 1, 2), (0, 0, 1998, 0, 0, 0)), ((2, 1, 0), (2001, 0, 0, 0, 0, 0)),
-                ((2, 1, 0), (-2001, 0, 0, 0, 0, 0)), ((0, 1, 2), (GREAT,) * 6), ((0, 1, 2), (333, 333, 333, 333, 333, 337))]
+        told = [((0, 1, 2), (2002, 0, 0, 0, 0, 0)), ((0, 1, 2), (0, 0, 1998, 0, 0, 0)),
+                ((2, 1, 0), (2001, 0, 0, 0, 0, 0)), ((2, 1, 0), (-2001, 0, 0, 0, 0, 0)),
+                ((0, 1, 2), (GREAT,) * 6), ((0, 1, 2), (333, 333, 333, 333, 333, 337))]
         for shape, counts in told:
             goal = stand_by(HOME, shape, counts)
             self.assertGreater(fewest_tips(HOME, goal), 2000)
@@ -182,8 +184,9 @@ class Plans(unittest.TestCase):
         goal = walked(HOME, (EAST, NORTH))
         self.assertIs(is_plan(HOME, goal, (EAST, NORTH)), True)
         for thing in ([EAST, NORTH], (["tip", 0], NORTH), (EAST, ("tip", True)), (("tip", False), NORTH), (NORTH, EAST),
-                      (EAST,), (EAST, NORTH, NORTH, SOUTH), (EAST, ("tip", 5)), (EAST, None), None, True, 2, "tip", (), [],
-                      (EAST, ("turn", 0, 1)), ("tip", 0), ((EAST, NORTH),), (EAST, "north"), (EAST, ("tip", "1"))):
+                      (EAST,), (EAST, NORTH, NORTH, SOUTH), (EAST, ("tip", 5)), (EAST, None), None, True, 2, "tip",
+                      (), [], (EAST, ("turn", 0, 1)), ("tip", 0), ((EAST, NORTH),), (EAST, "north"),
+                      (EAST, ("tip", "1"))):
             self.assertIs(is_plan(HOME, goal, thing), False, thing)
         # One turn leads there, three tips: a turn is no plan.
         goal = walked(HOME, (("turn", 2, 1),))
@@ -247,7 +250,8 @@ class Edges(unittest.TestCase):
             plan(HOME, (HOME[0], (GREAT, 0, GREAT), (0, 0, 0), (1, 1, -1)))
 
     def test_numbers_at_the_bounds(self):
-        least, most = ((0, 1, 2), (-GREAT,) * 3, (-GREAT,) * 3, (1, 1, 1)), ((0, 1, 2), (GREAT,) * 3, (GREAT,) * 3, (1, 1, 1))
+        least = (0, 1, 2), (-GREAT,) * 3, (-GREAT,) * 3, (1, 1, 1)
+        most = (0, 1, 2), (GREAT,) * 3, (GREAT,) * 3, (1, 1, 1)
         self.assertEqual(fewest_tips(least, most), 6 * GREAT)
         self.assertEqual((spare_tips(least, most), gone_by(most, least)), (0, (GREAT,) * 6))
         self.assertEqual(fewest_tips(HOME, FAR), 6)

@@ -84,7 +84,8 @@ class Pairs(unittest.TestCase):
                 pair_turned(move)
 
     def test_wrong_numbers(self):
-        for args in ((2, 1, 1), (-1, 1, 1), (True, 1, 1), (0, 0, 1), (0, 1, 2), (0, True, 1), (0, 1, True), (None, 1, 1)):
+        for args in ((2, 1, 1), (-1, 1, 1), (True, 1, 1), (0, 0, 1), (0, 1, 2), (0, True, 1), (0, 1, True),
+                     (None, 1, 1)):
             with self.assertRaises(Unfit):
                 turn_for(*args)
 
@@ -116,7 +117,8 @@ class Slants(unittest.TestCase):
                 self.assertEqual((2 * (a * s + b * t), 2 * (a * e + b * d)), (to_x - x + to_y - y, to_x - x - to_y + y))
 
     def test_pairs_one_odd_one_even(self):
-        for slants in ((1, 0, 0, 0), (0, 1, 0, 0), (0, 0, 1, 0), (0, 0, 0, -1), (2, 3, 1, 1), (1, 1, 5, 4), (GREAT, 1, 0, 0)):
+        for slants in ((1, 0, 0, 0), (0, 1, 0, 0), (0, 0, 1, 0), (0, 0, 0, -1), (2, 3, 1, 1), (1, 1, 5, 4),
+                       (GREAT, 1, 0, 0)):
             with self.assertRaises(CanNot):
                 stand_by_slants(HOME, slants)
             with self.assertRaises(Unfit):
@@ -127,14 +129,15 @@ class Slants(unittest.TestCase):
         for shape in ((0, 1, 2), (1, 0, 2)):
             for fronts in ALL_FRONTS:
                 self.assertEqual(slants_between(HOME, (shape, (1, 3, 0), (1, -3, 0), fronts)), (1, 3, 0, 0))
-                self.assertEqual(slants_between((shape, (0, 0, 0), (0, 0, 0), fronts), (HOME[0], (4, 1, 0), (0, 1, 0), HOME[3])),
+                self.assertEqual(slants_between((shape, (0, 0, 0), (0, 0, 0), fronts),
+                                                (HOME[0], (4, 1, 0), (0, 1, 0), HOME[3])),
                                  (2, 0, 1, 2) if shape == (0, 1, 2) else (1, 2, 2, 0))
 
     def test_without_slants(self):
         for shape in ALL_SHAPES:
-            for xs, ys in (((0, 0, 0), (0, 0, 0)), ((1, 0, 0), (0, 0, 0)), ((0, 0, 0), (0, 1, 0)), ((0, 0, 2), (0, 0, 0)),
-                           ((0, 0, 0), (0, 0, -2)), ((2, 3, 0), (4, 1, 0)), ((0, 0, 1), (0, 0, 1)), ((1, 1, 0), (1, 1, 0)),
-                           ((1, 0, 0), (0, 1, 0))):
+            for xs, ys in (((0, 0, 0), (0, 0, 0)), ((1, 0, 0), (0, 0, 0)), ((0, 0, 0), (0, 1, 0)),
+                           ((0, 0, 2), (0, 0, 0)), ((0, 0, 0), (0, 0, -2)), ((2, 3, 0), (4, 1, 0)),
+                           ((0, 0, 1), (0, 0, 1)), ((1, 1, 0), (1, 1, 0)), ((1, 0, 0), (0, 1, 0))):
                 goal = shape, xs, ys, (1, 1, 1)
                 if {"shape", "upright", "half"} & set(told_bars(HOME, goal)):
                     with self.assertRaises(CanNot):
@@ -216,13 +219,19 @@ class BesideSearch(unittest.TestCase):
 class Words(unittest.TestCase):
     def test_each(self):
         told = [
-            ("shape", ((2, 1, 0), (1, 0, 0), (0, 0, 1), (1, 1, 1))), ("shape", ((0, 2, 1), (0, 0, 0), (0, 0, 0), (1, 1, 1))),
-            ("upright", ((0, 1, 2), (1, 0, 2), (0, 0, 0), (1, 1, 1))), ("upright", ((1, 0, 2), (0, 0, 0), (0, 0, -1), (1, 1, 1))),
-            ("half", ((0, 1, 2), (1, 0, 0), (0, 0, 0), (1, 1, 1))), ("half", ((1, 0, 2), (2, 0, 0), (0, 3, 0), (1, 1, -1))),
-            ("odd", ((0, 1, 2), (2, 0, 0), (0, 0, 0), (1, 1, 1))), ("odd", ((1, 0, 2), (1, 0, 0), (1, 0, 0), (1, 1, -1))),
-            ("way", ((1, 0, 2), (0, 0, 0), (0, 0, 0), (1, 1, 1))), ("way", ((0, 1, 2), (1, 3, 0), (1, -3, 0), (-1, 1, 1))),
+            ("shape", ((2, 1, 0), (1, 0, 0), (0, 0, 1), (1, 1, 1))),
+            ("shape", ((0, 2, 1), (0, 0, 0), (0, 0, 0), (1, 1, 1))),
+            ("upright", ((0, 1, 2), (1, 0, 2), (0, 0, 0), (1, 1, 1))),
+            ("upright", ((1, 0, 2), (0, 0, 0), (0, 0, -1), (1, 1, 1))),
+            ("half", ((0, 1, 2), (1, 0, 0), (0, 0, 0), (1, 1, 1))),
+            ("half", ((1, 0, 2), (2, 0, 0), (0, 3, 0), (1, 1, -1))),
+            ("odd", ((0, 1, 2), (2, 0, 0), (0, 0, 0), (1, 1, 1))),
+            ("odd", ((1, 0, 2), (1, 0, 0), (1, 0, 0), (1, 1, -1))),
+            ("way", ((1, 0, 2), (0, 0, 0), (0, 0, 0), (1, 1, 1))),
+            ("way", ((0, 1, 2), (1, 3, 0), (1, -3, 0), (-1, 1, 1))),
             ("way", ((1, 0, 2), (0, 0, 0), (0, 0, 0), (1, 1, -1))),
-            ("fronts", ((0, 1, 2), (0, 0, 0), (0, 0, 0), (1, 1, -1))), ("fronts", ((1, 0, 2), (1, 3, 0), (1, -3, 0), (1, 1, 1))),
+            ("fronts", ((0, 1, 2), (0, 0, 0), (0, 0, 0), (1, 1, -1))),
+            ("fronts", ((1, 0, 2), (1, 3, 0), (1, -3, 0), (1, 1, 1))),
             ("fronts", ((0, 1, 2), (GREAT, 0, 0), (0, 0, 0), (1, -1, 1))),
         ]
         for word, goal in told:
@@ -277,7 +286,8 @@ class Plans(unittest.TestCase):
 
     def test_up_to_2000(self):
         draw = Draw(195)
-        for slants in ((2000, 0, 0, 0), (1000, -400, 2, 1000), (0, 0, -1999, 1), (1, 1, 1999, -3), (-7, 999, 1001, 1001)):
+        for slants in ((2000, 0, 0, 0), (1000, -400, 2, 1000), (0, 0, -1999, 1), (1, 1, 1999, -3),
+                       (-7, 999, 1001, 1001)):
             for stand in draw.stands(4):
                 goal = stand_by_slants(stand, slants)
                 row = turn_plan(stand, goal)
@@ -302,17 +312,24 @@ class Plans(unittest.TestCase):
     def test_what_is_no_turn_plan(self):
         goal = walked(HOME, (("turn", 2, 1),))
         self.assertIs(is_turn_plan(HOME, goal, (("turn", 2, 1),)), True)
-        for thing in ([("turn", 2, 1)], (["turn", 2, 1],), (("turn", 2, True),), (("turn", 2, -1),), (("turn", 2, 1),) * 5, (), None,
-                      True, "turn", ("turn", 2, 1), (("turn", 2, 1), None), (("turn", 2),), (("tip", 1), ("tip", 0), ("tip", 3))):
+        for thing in ([("turn", 2, 1)], (["turn", 2, 1],), (("turn", 2, True),), (("turn", 2, -1),),
+                      (("turn", 2, 1),) * 5, (), None, True, "turn", ("turn", 2, 1), (("turn", 2, 1), None),
+                      (("turn", 2),), (("tip", 1), ("tip", 0), ("tip", 3))):
             self.assertIs(is_turn_plan(HOME, goal, thing), False, thing)
+        # It leads there, by more turns than are needed, or by tips as well.
+        for row in ((("turn", 2, 1), ("turn", 0, 1), ("turn", 1, -1)), (("turn", 2, 1), ("tip", 0), ("tip", 2))):
+            self.assertEqual(walked(HOME, row), goal)
+            self.assertIs(is_turn_plan(HOME, goal, row), False)
         self.assertIs(is_turn_plan(HOME, HOME[:3] + ((1, 1, -1),), ()), False)
         with self.assertRaises(Unfit):
             is_turn_plan(HOME, HOME[:3], ())
 
     def test_stand_and_goal_one(self):
         for stand in beginnings(196):
-            self.assertEqual((fewest_turns(stand, stand), first_turns(stand, stand), turn_plan(stand, stand)), (0, (), ()))
-            self.assertEqual((slants_between(stand, stand), stand_by_slants(stand, (0, 0, 0, 0))), ((0, 0, 0, 0), stand))
+            self.assertEqual((fewest_turns(stand, stand), first_turns(stand, stand), turn_plan(stand, stand)),
+                             (0, (), ()))
+            self.assertEqual((slants_between(stand, stand), stand_by_slants(stand, (0, 0, 0, 0))),
+                             ((0, 0, 0, 0), stand))
             self.assertIs(is_turn_plan(stand, stand, ()), True)
             self.assertIs(is_turn_plan(stand, stand, []), False)
 

@@ -35,7 +35,8 @@ class Listed(unittest.TestCase):
         how_many, row_at, row_number = functions
         self.assertEqual(how_many(stand, goal), len(rows))
         self.assertEqual(how_many(goal, stand), len(rows))
-        for place in sorted({0, 1, len(rows) // 3, len(rows) // 2, len(rows) - 2, len(rows) - 1} & set(range(len(rows)))):
+        many = len(rows)
+        for place in sorted({0, 1, many // 3, many // 2, many - 2, many - 1} & set(range(many))):
             self.assertEqual(row_at(stand, goal, place), rows[place])
             self.assertEqual(row_number(stand, goal, rows[place]), place)
             self.assertIsInstance(row_number(goal, stand, undone(rows[place])), int)
@@ -57,7 +58,8 @@ class Listed(unittest.TestCase):
             for goal in draw.chance.sample(sorted(near), 14):
                 rows = all_shortest(stand, tips_within(goal, 8), ALL_TIPS)
                 self.check(TIPS, stand, goal, rows)
-                often = {tuple(links_of(faces_of(stand[0]), [way for _, way in row]).count(n) for n in range(6)) for row in rows}
+                often = {tuple(links_of(faces_of(stand[0]), [way for _, way in row]).count(n) for n in range(6))
+                         for row in rows}
                 self.assertEqual(links_gone(stand, goal), sorted(often))
 
     def test_every_place_of_some(self):
@@ -74,7 +76,8 @@ class Listed(unittest.TestCase):
 
     def test_fourteen_tips(self):
         """Over all STANDS half way: ROWS up to it times ROWS on from it."""
-        for counts in ((2, 2, 2, 2, 2, 0), (3, 3, 3, 3, 1, 1), (0, 0, 10, 0, 0, 0), (2, 2, 2, -4, -2, 2), (2, 0, 0, 6, 0, 0)):
+        for counts in ((2, 2, 2, 2, 2, 0), (3, 3, 3, 3, 1, 1), (0, 0, 10, 0, 0, 0), (2, 2, 2, -4, -2, 2),
+                       (2, 0, 0, 6, 0, 0)):
             stand, goal = HOME, stand_by(HOME, HOME[0], counts)
             tips = fewest_tips(stand, goal)
             self.assertIn(tips, (10, 12, 14))
@@ -157,7 +160,8 @@ class Turns(unittest.TestCase):
                 turn_row_number(HOME, goal, row)
 
     def test_none_come_to_it(self):
-        for goal in (((2, 1, 0), (1, 0, 1), (0, 0, 0), (-1, 1, 1)), (HOME[0], (4 * GREAT + 2, 0, 0), (0, 0, 0), HOME[3]),
+        for goal in (((2, 1, 0), (1, 0, 1), (0, 0, 0), (-1, 1, 1)),
+                     (HOME[0], (4 * GREAT + 2, 0, 0), (0, 0, 0), HOME[3]),
                      HOME[:3] + ((1, 1, -1),)):
             for call in ((how_many_turn_rows, ()), (turn_row_at, (0,)), (turn_row_number, ((),))):
                 with self.assertRaises(CanNot):
@@ -206,7 +210,8 @@ class Tips(unittest.TestCase):
                 continue
             many = how_many_tip_rows(stand, goal)
             row = tip_row_at(stand, goal, draw.chance.randrange(many))
-            steps = list(zip(links_of(faces_of(stand[0]), [way for _, way in row]), [1 if way < 2 else -1 for _, way in row]))
+            steps = list(zip(links_of(faces_of(stand[0]), [way for _, way in row]),
+                             [1 if way < 2 else -1 for _, way in row]))
             for link, count in enumerate(counts):
                 own = sorted(sign for at, sign in steps if at == link)
                 if count == 0:
