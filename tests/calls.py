@@ -57,12 +57,21 @@ FIT = {
     "sign": [1, -1],
     "pair": [0, 1],
     "row_place": [0, 1, 23, 10 ** 30],
-    "stake": [(FLAT, ()), ((0, 0, 2, 0, 0, 0), (3, 4, 5)), ((1, -1, 0, 0, 10 ** 12, 2), (0, 2)), (FLAT, (0, 1, 2, 3, 4, 5))],
+    "most": [2, 1, 12, 0, 13, -1],
+    "coins": [((3, False, False), (5, True, False)), (), ((4, False, True), (6, False, True), (1, True, False)),
+              ((120, False, True),)],
+    "paying": [(2, -1), (), (0, 0, 3), (4,), (12, -7)],
+    "arc": [(), (0,), (3, 4, 5), (0, 1, 2, 3, 4, 5)],
+    "axis": [0, 1],
+    "middle": [(0, 0), (14, 0), (7, 8), (10 ** 12, -3)],
+    "stake": [(FLAT, ()), ((0, 0, 2, 0, 0, 0), (3, 4, 5)), ((1, -1, 0, 0, 10 ** 12, 2), (0, 2)),
+              (FLAT, (0, 1, 2, 3, 4, 5))],
     "thing": [None, True, 3, "a", (), [], (1, 1, 1), [1, 1, 1], ("tip", 0), ["tip", 0], (("tip", 0),), [("tip", 0)],
               HOME, list(HOME), FLAT, [0, 0, 0, 0, 0, 0], (0, 1, 2, 2), [0, 1, 2, 2], (True, 1, 2),
               (0, True, 0), (("tip", 0), ("tip", 0)), (["tip", 0], ["tip", 0]), (("turn", 0, -1),), (FLAT, ()),
               (FLAT, [0, 1, 2, 3, 4, 5]), (FLAT, (0, 1, 2, 3, 4, 5)), ("sum", 0), ("sum", True), ["sum", 0],
-              ("front", 0), ("odd", (0,)), ("odd", [0])],
+              ("front", 0), ("odd", (0,)), ("odd", [0]), (2, -1), [2, -1], (True, False), 2, ((0, 2), (0, 4)),
+              ((False, 2), (0, 4)), ((3, False, False), (5, True, False)), ((3, False, False), [5, True, False])],
 }
 
 # For each kind: values at the bounds of [3], and somewhat beyond them.
@@ -93,6 +102,13 @@ GREAT = {
     "sign": [-1],
     "pair": [1],
     "row_place": [10 ** 30],
+    "most": [12],
+    "coins": [((120, False, True), (119, True, False), (117, False, True)),
+              ((130, False, True), (61, True, False), (1, False, False))],
+    "paying": [(10 ** 14, -10 ** 14 + 1, 0), (-10 ** 15, -1, 10 ** 15)],
+    "arc": [(0, 1, 2, 3, 4, 5)],
+    "axis": [1],
+    "middle": [(10 ** 12, -10 ** 12), (-10 ** 13, 10 ** 13 + 1)],
     "stake": [((10 ** 12,) * 6, ()), ((-10 ** 13,) * 6, (5,))],
     "thing": [(10 ** 40,) * 3, ("tip",) * 10 ** 5, (("tip", 0),) * 10 ** 4],
 }
@@ -158,10 +174,33 @@ UNFIT = {
         (FLAT, (None,)), (FLAT, (0.0,)), ((0,) * 5, ()), ((0,) * 7, ()), ((0, 0, 0, 0, 0, True), ()), (None, ()),
         ("000000", ()), ((FLAT, ()),), (((0,) * 6,), ()), (FLAT, (0, 1, 2, 3, 4, 5, 5)), (FLAT, {}),
     ],
+    "most": NUMBERS,
+    "coins": NO_TUPLES + [
+        ((),), [[]], (3, False, False), [3, False, False], ((3, False, False),) * 4, ((0, False, False),),
+        ((-3, False, False),), ((True, False, False),), ((None, False, False),), ((3, False),),
+        ((3, False, False, False),), ((3, 0, 0),), ((3, 1, False),), ((3, False, None),), ((3, "", False),),
+        (((3,), False, False),), ((3.0, False, False),), (((3, False, False),),), [[[3, False, False]]],
+        ((3, False, False), None), ("abc",), ((3, False, False), ()), ((3, (False,), False),),
+    ],
+    "paying": NO_TUPLES + EMPTY + [
+        (2,), (2, -1, 0), (1, 1), (2, 2), [3, 1], (2, True), (False, 1), (2, None), (2, "1"), ((2, -1),), (2, (-1,)),
+        ((2,), (-1,)), (2, 1.0), (2.0, 1),
+    ],
+    "arc": NO_TUPLES + [
+        ((),), [[]], (6,), (-1,), (0, 0), (1, 0), [5, 4], (True,), (False,), (None,), ("0",), ((0,),), [[0]], (0.0,),
+        (0, 1, 2, 3, 4, 5, 5), (0, 1, 2, 3, 4, 5, 6), FLAT, (0, True),
+    ],
+    "axis": NUMBERS + [-1, 2, "x", 10 ** 30],
+    "middle": NO_TUPLES + EMPTY + [
+        (0,), (0, 0, 0), [0], (0, True), (None, 0), ("0", 0), "00", ((0, 0),), [[0, 0]], (0, (0,)), (0, 0.0),
+        ((0,), (0,)),
+    ],
     "words": NO_TUPLES + [[()], ["a"], [("a",)], [("a", 0, 0)], [("A", 0)], [("", 0)], [("a", -1)], [("a", True)],
                           [("a", 1), ("b", 0)], [[["a", 0]]], ("a", 0), [(0, "a")]],
 }
 UNFIT["filled"] = UNFIT["row"]
+
+THERE = [("chest", "chest"), ("stand", "stand"), ("shape", "shape"), ("middle", "middle")]
 
 # For each file and function: the names of its parameters, in order, with their kinds.
 CALLS = {
@@ -288,5 +327,50 @@ CALLS = {
         "tip_row_at": [("stand", "stand"), ("goal", "stand"), ("number", "row_place")],
         "tip_row_number": [("stand", "stand"), ("goal", "stand"), ("row", "row")],
         "links_gone": [("stand", "stand"), ("goal", "stand")],
+    },
+    "alike": {
+        "are_alike": [("row", "row"), ("other", "row")],
+        "alike_for": [("chest", "chest"), ("row", "row"), ("other", "row")],
+        "parting_chest": [("row", "row"), ("other", "row")],
+        "is_parting": [("row", "row"), ("other", "row"), ("thing", "thing")],
+        "chests_for": [("row", "row"), ("other", "row"), ("most", "most")],
+        "comes_home": [("row", "row")],
+        "comes_home_for": [("chest", "chest"), ("row", "row")],
+        "exchanged": [("row", "row"), ("place", "any_number")],
+        "can_exchange": [("row", "row"), ("place", "any_number")],
+        "exchanges": [("row", "row")],
+    },
+    "shortest": {
+        "kind_of_row": [("row", "row")],
+        "fewest_like": [("row", "row")],
+        "shortest_like": [("row", "row")],
+        "is_shortest_like": [("row", "row"), ("thing", "thing")],
+        "is_shortest": [("row", "row")],
+        "too_many": [("row", "row")],
+        "first_loop": [("row", "row")],
+        "without_loops": [("row", "row")],
+    },
+    "coins": {
+        "is_coins": [("thing", "thing")],
+        "can_pay": [("coins", "coins"), ("number", "any_number")],
+        "is_paying": [("coins", "coins"), ("number", "any_number"), ("thing", "thing")],
+        "cost_of": [("coins", "coins"), ("paying", "paying")],
+        "least_cost": [("coins", "coins"), ("number", "any_number")],
+        "paying": [("coins", "coins"), ("number", "any_number")],
+        "is_least_paying": [("coins", "coins"), ("number", "any_number"), ("thing", "thing")],
+        "bar": [("coins", "coins"), ("number", "any_number")],
+        "is_bar": [("coins", "coins"), ("number", "any_number"), ("thing", "thing")],
+    },
+    "told": {
+        "link_coins": [("chest", "chest"), ("arc", "arc"), ("axis", "axis")],
+        "way_left": [("chest", "chest"), ("stand", "stand"), ("middle", "middle")],
+        "can_tip_there": THERE,
+        "fewest_to": THERE,
+        "best_counts": THERE,
+        "best_goal": THERE,
+        "tip_row": THERE,
+        "is_tip_row": THERE + [("thing", "thing")],
+        "why_never": THERE,
+        "is_why_never": THERE + [("thing", "thing")],
     },
 }
