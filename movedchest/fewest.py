@@ -42,11 +42,15 @@ def tips_along(walk, counts):
     return tuple(row)
 
 
+def tips_told_by(stand, goal, stake):
+    """A ROW of just the tips that a STAKE tells, whose stretch may be any free stretch, or ()."""
+    return tips_along(walk_over(stand[0], goal[0], often_told(stake)), stake[0])
+
+
 def shortest_tips(stand, goal):
     """A shortest ROW of tips that leads there, however long it is."""
     start, end = fit_stand(stand), fit_stand(goal)
-    stake = why_no_fewer(start, end)
-    return tips_along(walk_over(start[0], end[0], often_told(stake)), stake[0])
+    return tips_told_by(start, end, why_no_fewer(start, end))
 
 
 def plan(stand, goal):

@@ -64,6 +64,9 @@ FIT = {
     "arc": [(), (0,), (3, 4, 5), (0, 1, 2, 3, 4, 5)],
     "axis": [0, 1],
     "middle": [(0, 0), (14, 0), (7, 8), (10 ** 12, -3)],
+    "prices": [(1, 1, 1, 1, 1, 1), (0, 0, 1, 7, 7, 7), FLAT, (5, 0, 3, 2, 10 ** 6, 1)],
+    "low": [-8, 0, 3],
+    "high": [8, 5, -1],
     "stake": [(FLAT, ()), ((0, 0, 2, 0, 0, 0), (3, 4, 5)), ((1, -1, 0, 0, 10 ** 12, 2), (0, 2)),
               (FLAT, (0, 1, 2, 3, 4, 5))],
     "thing": [None, True, 3, "a", (), [], (1, 1, 1), [1, 1, 1], ("tip", 0), ["tip", 0], (("tip", 0),), [("tip", 0)],
@@ -71,7 +74,8 @@ FIT = {
               (0, True, 0), (("tip", 0), ("tip", 0)), (["tip", 0], ["tip", 0]), (("turn", 0, -1),), (FLAT, ()),
               (FLAT, [0, 1, 2, 3, 4, 5]), (FLAT, (0, 1, 2, 3, 4, 5)), ("sum", 0), ("sum", True), ["sum", 0],
               ("front", 0), ("odd", (0,)), ("odd", [0]), (2, -1), [2, -1], (True, False), 2, ((0, 2), (0, 4)),
-              ((False, 2), (0, 4)), ((3, False, False), (5, True, False)), ((3, False, False), [5, True, False])],
+              ((False, 2), (0, 4)), ((3, False, False), (5, True, False)), ((3, False, False), [5, True, False]),
+              TURNED, ROLLED, ((0, 1, 2), (2, 0, True), ZERO, (-1, 1, -1)), (("turn", 1, -1),) * 2],
 }
 
 # For each kind: values at the bounds of [3], and somewhat beyond them.
@@ -109,6 +113,9 @@ GREAT = {
     "arc": [(0, 1, 2, 3, 4, 5)],
     "axis": [1],
     "middle": [(10 ** 12, -10 ** 12), (-10 ** 13, 10 ** 13 + 1)],
+    "prices": [(10 ** 6,) * 6, (0, 0, 10 ** 7, 10 ** 6, 0, 1)],
+    "low": [-10 ** 6, 10 ** 6, -10 ** 7],
+    "high": [10 ** 6, -10 ** 6, 10 ** 7],
     "stake": [((10 ** 12,) * 6, ()), ((-10 ** 13,) * 6, (5,))],
     "thing": [(10 ** 40,) * 3, ("tip",) * 10 ** 5, (("tip", 0),) * 10 ** 4],
 }
@@ -199,7 +206,11 @@ UNFIT = {
                           [("a", 1), ("b", 0)], [[["a", 0]]], ("a", 0), [(0, "a")]],
 }
 UNFIT["filled"] = UNFIT["row"]
+UNFIT["prices"] = UNFIT["often"]
+UNFIT["low"] = UNFIT["high"] = NUMBERS
 
+PRICED = [("stand", "stand"), ("goal", "stand"), ("prices", "prices")]
+AS_BARS = [("stand", "stand"), ("goal", "stand"), ("side", "side")]
 THERE = [("chest", "chest"), ("stand", "stand"), ("shape", "shape"), ("middle", "middle")]
 
 # For each file and function: the names of its parameters, in order, with their kinds.
@@ -372,5 +383,43 @@ CALLS = {
         "is_tip_row": THERE + [("thing", "thing")],
         "why_never": THERE,
         "is_why_never": THERE + [("thing", "thing")],
+    },
+    "toldturns": {
+        "can_turn_there": THERE,
+        "fewest_turns_to": THERE,
+        "best_slants": THERE,
+        "best_turn_goal": THERE,
+        "is_best_turn_goal": THERE + [("thing", "thing")],
+        "turn_row": THERE,
+        "is_turn_row": THERE + [("thing", "thing")],
+        "turn_rests": THERE[:3],
+    },
+    "covered": {
+        "spacing": [("chest", "chest")],
+        "rests_there": THERE[:3],
+        "shapes_there": [("chest", "chest"), ("stand", "stand"), ("middle", "middle")],
+        "nearest_there": THERE,
+        "middles_in": THERE[:3] + [("low", "low"), ("high", "high")],
+        "turns_in": THERE[:3] + [("low", "low"), ("high", "high")],
+    },
+    "prices": {
+        "price_of": [("stand", "stand"), ("row", "row"), ("prices", "prices")],
+        "cheapest": PRICED,
+        "cheap_and_few": PRICED,
+        "left_links": PRICED,
+        "cheap_plan": PRICED,
+        "is_cheap_plan": PRICED + [("thing", "thing")],
+        "dearer": PRICED + [("link", "link")],
+    },
+    "cubes": {
+        "cube_seen": [("stand", "stand")],
+        "cube_fewest": [("stand", "stand"), ("goal", "stand")],
+        "cube_best": [("stand", "stand"), ("goal", "stand")],
+        "is_cube_best": [("stand", "stand"), ("goal", "stand"), ("thing", "thing")],
+        "blank_fewest": [("stand", "stand"), ("goal", "stand")],
+        "bar_seen": [("stand", "stand"), ("side", "side")],
+        "bar_fewest": AS_BARS,
+        "bar_best": AS_BARS,
+        "is_bar_best": AS_BARS + [("thing", "thing")],
     },
 }

@@ -39,7 +39,7 @@ def walked(stand, row):
     return stand
 
 
-def all_within(stand, moves, most):
+def all_within(stand, moves, most, step=stepped):
     """For each STAND that at most so many of these MOVES come to: how many at the fewest."""
     found = {stand: 0}
     here = [stand]
@@ -47,7 +47,7 @@ def all_within(stand, moves, most):
         later = []
         for own in here:
             for move in moves:
-                there = stepped(own, move)
+                there = step(own, move)
                 if there not in found:
                     found[there] = many
                     later.append(there)

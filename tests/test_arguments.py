@@ -20,6 +20,9 @@ LISTS_AT = [
 
 MOST_CALLS = 150
 
+# In these what is no such thing is told by CanNot(), where there is none, whatever thing is.
+NONE_WHATEVER = ("is_plan", "is_shortest_like", "is_cheap_plan", "is_cube_best", "is_bar_best")
+
 # At the bounds CanNot() is no refusal: there are STANDS to which no row leads, and COUNTS that do not lead.
 MAY_RAISE = {
     "walk_for": ("TooMany",), "repeated": ("TooMany",), "stand_by": ("CanNot",), "fronts_by": ("CanNot",),
@@ -34,6 +37,12 @@ MAY_RAISE = {
     "parting_chest": ("CanNot",), "exchanged": ("CanNot",), "can_exchange": ("CanNot",), "first_loop": ("CanNot",),
     "least_cost": ("CanNot",), "paying": ("CanNot",), "bar": ("CanNot",), "fewest_to": ("CanNot",),
     "best_counts": ("CanNot",), "best_goal": ("CanNot",), "tip_row": ("CanNot", "TooMany"), "why_never": ("CanNot",),
+    "fewest_turns_to": ("CanNot",), "best_slants": ("CanNot",), "best_turn_goal": ("CanNot",),
+    "turn_row": ("CanNot", "TooMany"), "middles_in": ("TooMany",), "turns_in": ("TooMany",),
+    "cheapest": ("CanNot",), "cheap_and_few": ("CanNot",), "left_links": ("CanNot",),
+    "cheap_plan": ("CanNot", "TooMany"), "is_cheap_plan": ("CanNot",), "dearer": ("CanNot",), "cube_seen": ("CanNot",),
+    "cube_fewest": ("CanNot",), "cube_best": ("CanNot",), "is_cube_best": ("CanNot",), "blank_fewest": ("CanNot",),
+    "bar_fewest": ("CanNot",), "bar_best": ("CanNot",), "is_bar_best": ("CanNot",),
 }
 
 
@@ -146,8 +155,7 @@ class Arguments(unittest.TestCase):
         for function, parameters in every_function():
             if parameters and parameters[-1][0] == "thing":
                 for args in fit_arguments(parameters):
-                    # No row leads there, row is mixed: so these tell, whatever thing is.
-                    cannot = ["raises CanNot {}"] if function.__name__ in ("is_plan", "is_shortest_like") else []
+                    cannot = ["raises CanNot {}"] if function.__name__ in NONE_WHATEVER else []
                     self.assertIn(outcome(function, *args), ["returns True", "returns False"] + cannot)
 
 

@@ -11,7 +11,7 @@ from movedchest.errors import CanNot, Unfit
 from movedchest.fewest import fewest_tips
 from tests.drawn import ALL_FRONTS, ALL_SHAPES, GREAT, HOME, Draw
 from tests.search import tips_within, walked
-from tests.tipping import RING, come_to
+from tests.tipping import RING, come_to, stretches_told
 
 LINK_SIDES = (1, 2, 0, 1, 2, 0)
 LINK_SETS = [own for many in range(7) for own in itertools.combinations(range(6), many)]
@@ -163,15 +163,8 @@ class Bars(unittest.TestCase):
 
 class Stakes(unittest.TestCase):
     def longest_stretches(self, shape, other, counts):
-        """Each longest free stretch, as a set: of all runs of LINKS, one behind the other."""
-        runs = {()}
-        for first, many in itertools.product(range(6), range(1, 7)):
-            run = [(first + n) % 6 for n in range(many)]
-            inside = [RING[link] for link in run[1:]]
-            if any(counts[link] for link in run) or shape in inside or other in inside:
-                continue
-            if many < 6 or shape == other == RING[first]:
-                runs.add(tuple(sorted(run)))
+        """Each longest free stretch, as a set."""
+        runs = stretches_told(shape, other, counts)
         most = max(map(len, runs))
         return {run for run in runs if len(run) == most}
 

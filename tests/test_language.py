@@ -62,6 +62,13 @@ def bound(tree):
             yield node.arg
 
 
+def nested(tree):
+    """The names of functions defined in functions."""
+    for node in ast.walk(tree):
+        if isinstance(node, ast.FunctionDef):
+            yield from (own.name for own in node.body if isinstance(own, ast.FunctionDef))
+
+
 class Language(unittest.TestCase):
     def test_files(self):
         for path in FOLDER.iterdir():
@@ -133,7 +140,7 @@ class Language(unittest.TestCase):
 
     def test_what_is_called(self):
         for name, tree in trees().items():
-            known = set(defined(tree)) | {own for _, own in imported(tree)} | set(bound(tree))
+            known = set(defined(tree)) | {own for _, own in imported(tree)} | set(bound(tree)) | set(nested(tree))
             for node in ast.walk(tree):
                 with self.subTest(file=name, line=getattr(node, "lineno", 0)):
                     self.assertNotIsInstance(node, NOT_NODES)

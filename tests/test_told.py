@@ -14,9 +14,9 @@ from movedchest.told import (
 from tests.drawn import ALL_FRONTS, ALL_SHAPES, ALL_TIPS, GREAT, HOME, Draw
 from tests.paying import least_by_trying
 from tests.search import tips_within, walked
-from tests.tipping import RING
+from tests.sides import LINK_SIDES, arcs_told, found_by, middle_told
+from tests.tipping import stretches_told
 
-LINK_SIDES = (1, 2, 0, 1, 2, 0)
 LINK_SETS = [own for many in range(7) for own in itertools.combinations(range(6), many)]
 EAST, NORTH, WEST, SOUTH = ALL_TIPS
 # All sides alike, two alike, all unlike, with a divisor in common, and without any.
@@ -24,23 +24,9 @@ SIDES = [(1, 1, 1), (3, 3, 3), (2, 2, 5), (1, 4, 1), (2, 3, 5), (2, 4, 6), (1, 3
 EVEN = (2, 4, 6)
 
 
-def middle_told(chest, stand):
-    return tuple(sum(side * number for side, number in zip(chest, stand[line])) for line in (1, 2))
-
-
 def found_there(chest, stand, most):
     """For each pair (SHAPE, MIDDLE) that at most so many tips come to: how many at the fewest."""
-    found = {}
-    for goal, tips in tips_within(stand, most).items():
-        own = goal[0], middle_told(chest, goal)
-        found[own] = min(tips, found.get(own, tips))
-    return found
-
-
-def arcs_told(shape, other):
-    start, end = RING.index(shape), RING.index(other)
-    onward = [(start + n) % 6 for n in range((end - start) % 6)]
-    return tuple(sorted(onward)), tuple(link for link in range(6) if link not in onward)
+    return found_by(chest, tips_within(stand, most))
 
 
 def coins_told(chest, arc, axis):
@@ -58,14 +44,7 @@ def fewest_by_runs(chest, stand, shape, middle):
     here = middle_told(chest, stand)
     best = None
     for arc in arcs_told(stand[0], shape):
-        runs = {()}
-        for first, many in itertools.product(range(6), range(1, 7)):
-            run = [(first + n) % 6 for n in range(many)]
-            inside = [RING[link] for link in run[1:]]
-            if set(run) & set(arc) or stand[0] in inside or shape in inside:
-                continue
-            if many < 6 or stand[0] == shape == RING[first]:
-                runs.add(tuple(sorted(run)))
+        runs = stretches_told(stand[0], shape, [int(link in arc) for link in range(6)])
         for run in runs:
             costs = []
             for axis in (0, 1):

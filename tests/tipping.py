@@ -1,5 +1,7 @@
 """All that tips come to in few steps, by turning first faces about axes; nothing here is taken from the package."""
 
+import itertools
+
 from tests.body import EAST, NORTH, UP, WAY_VECTORS, cross, quarter
 from tests.drawn import ALL_SHAPES
 
@@ -66,6 +68,19 @@ def come_to(shape, most):
                     found[shape_of(there), more] = tips, fronts_of(there)
                     later.append((there, more))
         here = later
+    return found
+
+
+def stretches_told(shape, other, counts):
+    """All free stretches as sets, those that are part of a longer one too, and (): of all runs of LINKS."""
+    found = {()}
+    for first, many in itertools.product(range(6), range(1, 7)):
+        run = [(first + n) % 6 for n in range(many)]
+        inside = [RING[link] for link in run[1:]]
+        if any(counts[link] for link in run) or shape in inside or other in inside:
+            continue
+        if many < 6 or shape == other == RING[first]:
+            found.add(tuple(sorted(run)))
     return found
 
 
