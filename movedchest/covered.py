@@ -16,7 +16,7 @@ MOST_MIDDLES = 2000
 def spacing(chest):
     """Twice the greatest number that divides the sum of each two sides."""
     a, b, c = fit_chest(chest)
-    return 2 * gcd(a + b, b + c, a + c)
+    return 2 * gcd(gcd(a + b, b + c), a + c)
 
 
 def rests_of(middles, wide):

@@ -23,6 +23,11 @@ def are_numbers(thing, many):
     return isinstance(thing, tuple) and len(thing) == many and all([is_number(own) for own in thing])
 
 
+def is_ascending(values):
+    """Whether each of the values is less than the one behind it."""
+    return all([first < second for first, second in zip(values, values[1:])])
+
+
 def is_just(thing, told):
     """Whether thing is told, which is built of numbers, strings and tuples: True is no 1 there, a list no tuple."""
     if isinstance(told, tuple):

@@ -1,7 +1,7 @@
 """CHESTS, WAYS, and the SHAPES on their RING with its LINKS."""
 
 from movedchest.errors import CanNot, NoLink, Unfit
-from movedchest.kinds import are_numbers, fit_from_to, fit_number, is_from_to, tupled
+from movedchest.kinds import are_numbers, fit_from_to, fit_number, is_ascending, is_from_to, tupled
 
 RING = ((0, 1, 2), (2, 1, 0), (2, 0, 1), (1, 0, 2), (1, 2, 0), (0, 2, 1))
 LINKS = (0, 1, 2, 3, 4, 5)
@@ -52,7 +52,7 @@ def fit_links(links):
     own = tupled(links, 1)
     if not isinstance(own, tuple) or not all([is_from_to(link, 0, 5) for link in own]):
         raise Unfit()
-    if any([first >= second for first, second in zip(own, own[1:])]):
+    if not is_ascending(own):
         raise Unfit()
     return own
 

@@ -13,10 +13,17 @@ def has_only(text, signs):
     return text != "" and all([sign in signs for sign in text])
 
 
+def fit_text(text):
+    """The text, if it is a string, else Unfit()."""
+    if not isinstance(text, str):
+        raise Unfit()
+    return text
+
+
 def words(text):
     """The WORDS of a text; BadText(line) for the first line with another sign."""
     found = []
-    for line, row in enumerate(text.split("\n")):
+    for line, row in enumerate(fit_text(text).split("\n")):
         told = row.partition("#")[0]
         for word in told.split(" "):
             if word == "":

@@ -67,6 +67,22 @@ FIT = {
     "prices": [(1, 1, 1, 1, 1, 1), (0, 0, 1, 7, 7, 7), FLAT, (5, 0, 3, 2, 10 ** 6, 1)],
     "low": [-8, 0, 3],
     "high": [8, 5, -1],
+    "board": [(9, 6, ((8, 5),)), (3, 2, ((1, 1),)), (1, 1, ()), (2, 1, ((0, 0), (1, 0))), (5, 4, ((2, 2), (3, 0)))],
+    "small": [(1, 1, 2), (1, 2, 3), (2, 2, 2), (1, 1, 1)],
+    "lying": [((0, 1, 2), (0, 0)), ((2, 1, 0), (1, 0)), ((1, 0, 2), (2, 1)), ((0, 2, 1), (-1, 10 ** 6))],
+    "base": [(0, 0), (-3, 10 ** 6)],
+    "squares": [((0, 0), (1, 0)), (), ((0, 0),), ((0, 0), (0, 1), (1, 0), (1, 1)), ((-1, 5), (7, -2))],
+    "how": ["tips", "turns", "both"],
+    "row_text": ["tip east", "# b\n\n  turn nw  right # a", "", "tip up", "tip east\ntip west", "a\nB"],
+    "sheet_text": ["chest 1 2 3\nstand 0 1 2 0 0 0 0 0 0 1 1 1\ntip east", "", "chest 1 2 3", "chest 1 2 0\nA",
+                   "chest 1 2 3\n\nstand 2 1 0 1 0 1 0 -4 0 -1 1 1"],
+    "picture": [".#.\n.oo\n", "", "o", ".o\no.\n", "oo\noo\n", "..\n.x\n"],
+    "sheet": [((1, 2, 3), TIPPED, (("tip", 0), ("turn", 0, 1))), ((60, 1, 1), HOME, ()), ((1, 1, 1), TURNED, ())],
+    "demand": [("come", HOME, TIPPED), ("come", HOME, TURNED), ("fewest", HOME, ROLLED, 1), ("fewest", HOME, ROLLED, 2),
+               ("turns", HOME, TURNED, 2), ("turns", HOME, TURNED, 3), ("alike", (("tip", 0),), ()),
+               ("alike", (("tip", 0), ("tip", 2)), ())],
+    "demands": [(("come", HOME, TIPPED), ("come", HOME, TURNED)), (), (("fewest", HOME, ROLLED, 0),),
+                (("alike", (), ()), ("turns", HOME, TURNED, 3))],
     "stake": [(FLAT, ()), ((0, 0, 2, 0, 0, 0), (3, 4, 5)), ((1, -1, 0, 0, 10 ** 12, 2), (0, 2)),
               (FLAT, (0, 1, 2, 3, 4, 5))],
     "thing": [None, True, 3, "a", (), [], (1, 1, 1), [1, 1, 1], ("tip", 0), ["tip", 0], (("tip", 0),), [("tip", 0)],
@@ -75,7 +91,11 @@ FIT = {
               (FLAT, [0, 1, 2, 3, 4, 5]), (FLAT, (0, 1, 2, 3, 4, 5)), ("sum", 0), ("sum", True), ["sum", 0],
               ("front", 0), ("odd", (0,)), ("odd", [0]), (2, -1), [2, -1], (True, False), 2, ((0, 2), (0, 4)),
               ((False, 2), (0, 4)), ((3, False, False), (5, True, False)), ((3, False, False), [5, True, False]),
-              TURNED, ROLLED, ((0, 1, 2), (2, 0, True), ZERO, (-1, 1, -1)), (("turn", 1, -1),) * 2],
+              TURNED, ROLLED, ((0, 1, 2), (2, 0, True), ZERO, (-1, 1, -1)), (("turn", 1, -1),) * 2,
+              (9, 6, ((8, 5),)), (9, 6, [(8, 5)]), (True, 1, ()), ((0, 1, 2), (0, 0)), ((0, 1, 2), [0, 0]),
+              (((0, 1, 2), (0, 0)),), ((1, 2, 3), TIPPED, (("tip", 0),)), [(1, 2, 3), TIPPED, ()],
+              ("come", HOME, TIPPED), ["come", HOME, TIPPED], ("fewest", HOME, ROLLED, True), ("alike", (), ()),
+              ((2, 0, 0, 0, 0, 0), (1, 2, 3, 4, 5)), (1, 3, 0, 0), (TIPPED, HOME), [TIPPED, HOME]],
 }
 
 # For each kind: values at the bounds of [3], and somewhat beyond them.
@@ -116,6 +136,21 @@ GREAT = {
     "prices": [(10 ** 6,) * 6, (0, 0, 10 ** 7, 10 ** 6, 0, 1)],
     "low": [-10 ** 6, 10 ** 6, -10 ** 7],
     "high": [10 ** 6, -10 ** 6, 10 ** 7],
+    "board": [(20, 20, ((0, 5), (7, 7))), (1, 400, ()), (22, 22, ())],
+    "small": [(1, 2, 1), (60, 61, 20)],
+    "lying": [((0, 1, 2), (0, 0)), ((2, 1, 0), (10 ** 6, -10 ** 7))],
+    "base": [(10 ** 6, -10 ** 6), (10 ** 7, 10 ** 7)],
+    "squares": [tuple((x, y) for x in range(20) for y in range(20)), ((-10 ** 6, 0), (10 ** 7, 0))],
+    "how": ["tips", "turns", "both"],
+    "row_text": ["# " + "a" * 10 ** 5 + "\ntip east"],
+    "sheet_text": ["chest 60 60 60\nstand 0 1 2 " + "-999999999999 " * 6 + "1 1 1" + "\ntip east" * 2100],
+    "picture": [("." * 19 + "o\n") * 20],
+    "sheet": [((60, 60, 61), ((0, 1, 2), (10 ** 12,) * 3, (-10 ** 13,) * 3, ONES), (("tip", 0),) * 2100)],
+    "demand": [("come", HOME, ((0, 1, 2), (10 ** 12, 10 ** 12, 10 ** 13), ZERO, ONES)),
+               ("fewest", HOME, ((0, 1, 2), (2 * 10 ** 12, 0, 2 * 10 ** 12), ZERO, ONES), 10 ** 6),
+               ("turns", HOME, ((0, 1, 2), (4 * 10 ** 12, 0, 0), ZERO, ONES), 10 ** 14),
+               ("alike", (("tip", 0),) * 2000, (("turn", 0, 1),) * 2100)],
+    "demands": [(("come", HOME, TIPPED),) * 500],
     "stake": [((10 ** 12,) * 6, ()), ((-10 ** 13,) * 6, (5,))],
     "thing": [(10 ** 40,) * 3, ("tip",) * 10 ** 5, (("tip", 0),) * 10 ** 4],
 }
@@ -209,6 +244,55 @@ UNFIT["filled"] = UNFIT["row"]
 UNFIT["prices"] = UNFIT["often"]
 UNFIT["low"] = UNFIT["high"] = NUMBERS
 
+UNFIT["small"] = UNFIT["chest"]
+UNFIT["base"] = UNFIT["middle"]
+TEXTS = ("text", "row_text", "sheet_text", "picture")
+for text in TEXTS:
+    UNFIT[text] = [None, True, False, 0, 1.0, b"", b"tip east", (), [], ("tip east",), ["tip", "east"], {}, object()]
+UNFIT["how"] = NUMBERS + ["Tips", "tip", "both ", "none", b"tips", ("tips",), ["both"], "tipsturns"]
+UNFIT["board"] = NO_TUPLES + EMPTY + [
+    (1, 1), (1, 1, (), ()), (0, 1, ()), (1, 0, ()), (-1, 1, ()), (True, 1, ()), (1, True, ()), (1, None, ()), ("1", 1, ()),
+    (1, 1, None), (1, 1, 0), (1, 1, ((1, 0),)), (1, 1, ((0, 1),)), (1, 1, ((-1, 0),)), (1, 1, ((0, 0), (0, 0))),
+    (2, 2, ((1, 0), (0, 0))), [2, 2, [[0, 1], [0, 0]]], (1, 1, (0, 0)), (1, 1, ((0,),)), (1, 1, ((0, 0, 0),)),
+    (1, 1, ((0, False),)), (1, 1, (None,)), (1, 1, ((0, "0"),)), (1, 1, (((0, 0),),)), ((1, 1, ()),), (1, 1, ((0, 0.0),)),
+    (1, 1, "00"), (1, 1, {}), ((1,), 1, ()), (1, 1, ((0, (0,)),)),
+]
+UNFIT["lying"] = NO_TUPLES + EMPTY + [
+    ((0, 1, 2),), ((0, 1, 2), (0, 0), ()), ((0, 0), (0, 1, 2)), ((0, 1, 1), (0, 0)), ((0, 1), (0, 0)),
+    ((0, 1, 2), (0,)), ((0, 1, 2), (0, 0, 0)), ((0, 1, 2), (0, True)), ((0, True, 2), (0, 0)), ((0, 1, 2), None),
+    (None, (0, 0)), ((0, 1, 2), ("0", 0)), ("012", (0, 0)), ((0, 1, 2), ((0, 0),)), [[[0, 1, 2], [0, 0]]],
+    ((0, 1, 2), 0, 0), ((0, 1, 2), (0, 0.0)), ((0, 1, 2), "00"),
+]
+UNFIT["squares"] = NO_TUPLES + [
+    (0, 0), ((),), [[]], ((0,),), ((0, 0, 0),), ((0, True),), ((None, 0),), ((0, "0"),), ("00",), (((0, 0),),),
+    ((0, 0), (0, 0)), ((1, 0), (0, 0)), [[0, 1], [0, 0]], ((0, 0), None), ((0, 0.0),), ((0, 0), 1),
+]
+UNFIT["sheet"] = NO_TUPLES + EMPTY + [
+    ((1, 2, 3), HOME), ((1, 2, 3), HOME, (), ()), ((1, 2, 0), HOME, ()), ((1, 2), HOME, ()), (None, HOME, ()),
+    ((1, 2, 3), HOME[:3], ()), ((1, 2, 3), None, ()), ((1, 2, 3), HOME, None), ((1, 2, 3), HOME, ("tip", 0)),
+    ((1, 2, 3), HOME, (("tip", 4),)), ((1, 2, 3), HOME, (("tip", True),)), ((1, True, 3), HOME, ()),
+    (HOME, (1, 2, 3), ()), (((1, 2, 3), HOME, ()),), [[1, 2, 3], [[0, 1, 2], [0, 0, 0], [0, 0, 0], [1, 1, 0]], []],
+    ((1, 2, 3), HOME, ((("tip", 0),),)), ((1, 2, 3), HOME, "tip"), ("123", HOME, ()),
+]
+UNFIT["demand"] = NO_TUPLES + EMPTY + [
+    ("come",), ("come", HOME), ("come", HOME, HOME, 0), ("come", HOME, None), ("come", HOME[:3], HOME), ("Come", HOME, HOME),
+    ("go", HOME, HOME), (None, HOME, HOME), (b"come", HOME, HOME), (("come",), HOME, HOME), ("come", (), ()),
+    (("come", HOME, HOME),), ("fewest", HOME, ROLLED), ("fewest", HOME, ROLLED, -1), ("fewest", HOME, ROLLED, True),
+    ("fewest", HOME, ROLLED, None), ("fewest", HOME, ROLLED, "2"), ("fewest", HOME, ROLLED, (2,)),
+    ("fewest", HOME, ROLLED, 2, 2), ("fewest", HOME, HOME[:3] + ((1, 1, -1),), 9), ("fewest", HOME, TIPPED[:3] + ((1, 1, 1),), 9),
+    ("turns", HOME, TURNED), ("turns", HOME, TURNED, -1), ("turns", HOME, TURNED, False), ("turns", HOME, TIPPED, 9),
+    ("turns", HOME, TURNED[:3] + (ONES,), 9), ("turns", HOME, TURNED, 3, 3), ("turns", HOME, TURNED, 3.0),
+    ("alike", ()), ("alike", (), (), ()), ("alike", (), None), ("alike", ("tip", 0), ()), ("alike", (("tip", 4),), ()),
+    ("alike", (), (("tip", True),)), ("alike", HOME, HOME), ("alike", "tip", ()), ["alike", [["turn", 0]], []],
+]
+UNFIT["demands"] = NO_TUPLES + [
+    ((),), [[]], ("come", HOME, TIPPED), (("come", HOME, TIPPED), None), (None, ("come", HOME, TIPPED)),
+    ((("come", HOME, TIPPED),),), (("come", HOME, TURNED), ("fewest", HOME, TURNED, -1)), (True,), ("come",),
+    (("come", HOME, TURNED), ("turns", HOME, TIPPED, 9)), (("come", HOME, TURNED), ()),
+]
+
+ON_BOARD = [("board", "board"), ("chest", "small"), ("lying", "lying"), ("how", "how")]
+TO_OTHER = ON_BOARD[:3] + [("other", "lying"), ("how", "how")]
 PRICED = [("stand", "stand"), ("goal", "stand"), ("prices", "prices")]
 AS_BARS = [("stand", "stand"), ("goal", "stand"), ("side", "side")]
 THERE = [("chest", "chest"), ("stand", "stand"), ("shape", "shape"), ("middle", "middle")]
@@ -421,5 +505,40 @@ CALLS = {
         "bar_fewest": AS_BARS,
         "bar_best": AS_BARS,
         "is_bar_best": AS_BARS + [("thing", "thing")],
+    },
+    "boards": {
+        "is_board": [("thing", "thing")],
+        "is_lying": [("thing", "thing")],
+        "lying_of": [("chest", "small"), ("base", "base"), ("stand", "stand")],
+        "covered": [("chest", "small"), ("lying", "lying")],
+        "fits": ON_BOARD[:3],
+        "lain": [("chest", "small"), ("lying", "lying"), ("move", "move")],
+        "moves_on": ON_BOARD,
+        "reached_on": ON_BOARD,
+        "far_on": ON_BOARD,
+        "fewest_on": TO_OTHER,
+        "plan_on": TO_OTHER,
+        "is_plan_on": TO_OTHER + [("thing", "thing")],
+        "why_shut": TO_OTHER,
+        "is_why_shut": TO_OTHER + [("thing", "thing")],
+    },
+    "texts": {
+        "move_text": [("move", "move")],
+        "read_move": [("text", "row_text")],
+        "is_sheet": [("thing", "thing")],
+        "sheet_text": [("sheet", "sheet")],
+        "read_sheet": [("text", "sheet_text")],
+        "board_picture": ON_BOARD[:3],
+        "read_picture": [("text", "picture")],
+        "lyings_in": [("board", "board"), ("chest", "small"), ("squares", "squares")],
+    },
+    "judge": {
+        "is_demand": [("thing", "thing")],
+        "is_so": [("demand", "demand")],
+        "paper_against": [("demand", "demand")],
+        "is_paper_against": [("demand", "demand"), ("thing", "thing")],
+        "reason_for": [("demand", "demand")],
+        "is_reason_for": [("demand", "demand"), ("thing", "thing")],
+        "first_fallen": [("demands", "demands")],
     },
 }

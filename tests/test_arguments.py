@@ -8,7 +8,7 @@ import random
 import unittest
 
 from movedchest.errors import Unfit
-from tests.calls import CALLS, FIT, GREAT, UNFIT
+from tests.calls import CALLS, FIT, GREAT, TEXTS, UNFIT
 
 # At which depths a list stands, tuples at all others.
 LISTS_AT = [
@@ -20,10 +20,12 @@ LISTS_AT = [
 
 MOST_CALLS = 150
 
-# In these what is no such thing is told by CanNot(), where there is none, whatever thing is.
+# Where there is no such thing, where a LYING does not fit, these tell so whatever thing is.
+UNFIT_WHATEVER = ("is_plan_on", "is_why_shut")
 NONE_WHATEVER = ("is_plan", "is_shortest_like", "is_cheap_plan", "is_cube_best", "is_bar_best")
 
-# At the bounds CanNot() is no refusal: there are STANDS to which no row leads, and COUNTS that do not lead.
+# At the bounds CanNot() is no refusal: there are STANDS to which no row leads, and COUNTS that do not lead; neither
+# is Unfit() where a LYING has to fit a BOARD.
 MAY_RAISE = {
     "walk_for": ("TooMany",), "repeated": ("TooMany",), "stand_by": ("CanNot",), "fronts_by": ("CanNot",),
     "fewest_tips": ("CanNot",), "first_tips": ("CanNot",), "plan": ("CanNot", "TooMany"), "is_plan": ("CanNot",),
@@ -42,6 +44,9 @@ MAY_RAISE = {
     "cheapest": ("CanNot",), "cheap_and_few": ("CanNot",), "left_links": ("CanNot",),
     "cheap_plan": ("CanNot", "TooMany"), "is_cheap_plan": ("CanNot",), "dearer": ("CanNot",), "cube_seen": ("CanNot",),
     "cube_fewest": ("CanNot",), "cube_best": ("CanNot",), "is_cube_best": ("CanNot",), "blank_fewest": ("CanNot",),
+    "lying_of": ("CanNot",), "moves_on": ("Unfit",), "reached_on": ("Unfit",), "far_on": ("Unfit",),
+    "fewest_on": ("CanNot", "Unfit"), "plan_on": ("CanNot", "Unfit"), "is_plan_on": ("Unfit",),
+    "why_shut": ("CanNot", "Unfit"), "is_why_shut": ("Unfit",), "board_picture": ("Unfit",), "reason_for": ("TooMany",),
     "bar_fewest": ("CanNot",), "bar_best": ("CanNot",), "is_bar_best": ("CanNot",),
 }
 
@@ -136,7 +141,7 @@ class Arguments(unittest.TestCase):
                 if not outcome(function, *args).startswith("raises"):
                     continue
                 for at, (name, kind) in enumerate(parameters):
-                    for value in [None, True, "x"] if kind in UNFIT else []:
+                    for value in UNFIT.get(kind, [])[:2] + ([] if kind in TEXTS or kind not in UNFIT else ["x"]):
                         with self.subTest(function=function.__name__, parameter=name, args=args):
                             with self.assertRaises(Unfit):
                                 function(*args[:at], value, *args[at + 1:])
@@ -155,8 +160,10 @@ class Arguments(unittest.TestCase):
         for function, parameters in every_function():
             if parameters and parameters[-1][0] == "thing":
                 for args in fit_arguments(parameters):
-                    cannot = ["raises CanNot {}"] if function.__name__ in NONE_WHATEVER else []
-                    self.assertIn(outcome(function, *args), ["returns True", "returns False"] + cannot)
+                    may = ["returns True", "returns False"]
+                    may += ["raises CanNot {}"] if function.__name__ in NONE_WHATEVER else []
+                    may += ["raises Unfit {}"] if function.__name__ in UNFIT_WHATEVER else []
+                    self.assertIn(outcome(function, *args), may)
 
 
 if __name__ == "__main__":

@@ -1,9 +1,10 @@
 """[27]: what stands in which file, and the errors."""
 
 import importlib
+import inspect
 import unittest
 
-from movedchest import errors
+from movedchest import desk, errors
 from tests.calls import CALLS
 
 ERRORS = {
@@ -16,12 +17,28 @@ ERRORS = {
 }
 
 
+# The methods of Desk with the names of their arguments.
+DESK = {
+    "__init__": ["chest"], "say": ["text"], "chest": [], "stand": [], "row": [], "undo": [], "redo": [], "twin": [],
+    "__eq__": ["other"],
+}
+
+
 class Interface(unittest.TestCase):
     def test_each_function_is_defined_in_its_file(self):
         for module, functions in CALLS.items():
             own = importlib.import_module("movedchest." + module)
             for name in functions:
                 self.assertEqual(getattr(own, name).__module__, own.__name__)
+
+    def test_the_class_desk(self):
+        self.assertEqual(desk.Desk.__module__, "movedchest.desk")
+        for name, arguments in DESK.items():
+            # In the class itself, not in a base class.
+            own = list(inspect.signature(vars(desk.Desk)[name]).parameters.values())[1:]
+            self.assertEqual([argument.name for argument in own], arguments)
+            for argument in own:
+                self.assertEqual((argument.kind, argument.default), (argument.POSITIONAL_OR_KEYWORD, argument.empty))
 
     def test_errors(self):
         for name, (base, kept) in ERRORS.items():

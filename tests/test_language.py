@@ -62,6 +62,17 @@ def bound(tree):
             yield node.arg
 
 
+def own_methods(tree):
+    """The names of the methods that the classes of a module define."""
+    classes = [node for node in tree.body if isinstance(node, ast.ClassDef)]
+    return [own.name for each in classes for own in each.body if isinstance(own, ast.FunctionDef)]
+
+
+def own_attributes(tree):
+    """The names of the attributes that a module assigns."""
+    return [node.attr for node in ast.walk(tree) if isinstance(node, ast.Attribute) and isinstance(node.ctx, ast.Store)]
+
+
 def nested(tree):
     """The names of functions defined in functions."""
     for node in ast.walk(tree):
@@ -147,11 +158,24 @@ class Language(unittest.TestCase):
                     if isinstance(node, ast.Name) and isinstance(node.ctx, ast.Load):
                         self.assertTrue(node.id in known or node.id in BUILTINS, node.id)
                     if isinstance(node, ast.Call) and isinstance(node.func, ast.Attribute):
-                        self.assertIn(node.func.attr, METHODS)
+                        self.assertIn(node.func.attr, METHODS + own_methods(tree))
                     if isinstance(node, ast.Constant):
                         self.assertNotIsInstance(node.value, (float, bytes))
                     if isinstance(node, ast.Compare) and isinstance(node.ops[0], (ast.Is, ast.IsNot)):
                         self.assertIn(node.comparators[0].value, (None, True, False))
+
+    def test_methods_and_attributes(self):
+        for name, tree in trees().items():
+            methods, attributes = own_methods(tree), own_attributes(tree)
+            self.assertEqual(set(methods) & set(attributes), set(), name)
+            read = [node.attr for node in ast.walk(tree) if isinstance(node, ast.Attribute)]
+            for own in read:
+                self.assertIn(own, methods + attributes + METHODS, name)
+            for own in methods + attributes:
+                self.assertNotIn(own, METHODS + NOT_NAMES + ["sort", "args", "encode", "decode", "hex", "format"], name)
+            for own in methods:
+                if own.startswith("__"):
+                    self.assertIn(own, ("__init__", "__eq__"), name)
 
     def test_strings(self):
         for name, tree in trees().items():
